@@ -1,0 +1,1 @@
+"""A counter with lit digits, seen by a camera."""

@@ -1,0 +1,180 @@
+"""What several test files need: careful calls, and answers that are worked out tick by tick."""
+
+import copy
+import itertools
+import time
+
+from litdigits.errors import LitError
+
+PATTERNS = {
+    0: "abcdef",
+    1: "bc",
+    2: "abdeg",
+    3: "abcdg",
+    4: "bcfg",
+    5: "acdfg",
+    6: "acdefg",
+    7: "abc",
+    8: "abcdefg",
+    9: "abcdfg",
+}
+
+ALL_PATTERNS = ["".join(some) for many in range(8) for some in itertools.combinations("abcdefg", many)]
+
+
+
+class Agreeable:
+    """Equal to everything, and within all limits."""
+
+    __hash__ = None
+
+    def __eq__(self, other):
+        return True
+
+    __lt__ = __le__ = __gt__ = __ge__ = __eq__
+
+
+class Contrary:
+    """Refuses each comparison, also its length and its truth."""
+
+    __hash__ = None
+
+    def __eq__(self, other):
+        raise AssertionError("was compared")
+
+    __lt__ = __le__ = __gt__ = __ge__ = __ne__ = __eq__
+
+    def __len__(self):
+        raise AssertionError("was measured")
+
+    __bool__ = __iter__ = __len__
+
+
+# Values of many kinds that are neither integers nor strings, tuples or lists of a form that is asked.
+STRANGE = [
+    None, True, False, 0.0, 1.0, 3.5, float("nan"), float("inf"), 1j, b"", b"abg", {}, {1: 2}, set(), {1}, frozenset(),
+    object(), object, len, lambda: 0, range(3), bytearray(b"a"), iter([1]), Ellipsis, NotImplemented, ValueError("x"),
+    Agreeable(), Contrary(),
+]
+
+NO_INTEGERS = [*STRANGE, "", "1", "now", [], [1], (), (1,)]
+
+
+def shape(value):
+    """A value with the identity of each of its lists, tuples and dicts."""
+    if isinstance(value, (list, tuple)):
+        return (id(value), tuple([shape(item) for item in value]))
+    return id(value)
+
+
+def called(function, *values, **named):
+    """The answer of a call, or its LitError; fails if the call changes an argument."""
+    given = list(values) + list(named.values())
+    before = [shape(value) for value in given]
+    copies = [copied(value) for value in given]
+    try:
+        answer = function(*values, **named)
+    except LitError as error:
+        answer = error
+    assert before == [shape(value) for value in given], f"{function.__name__} changed an argument"
+    for value, earlier in zip(given, copies):
+        assert same(value, earlier), f"{function.__name__} changed an argument"
+    return answer
+
+
+def copied(value):
+    try:
+        return copy.deepcopy(value)
+    except TypeError:
+        return value
+
+
+def same(one, other):
+    """Whether two values are alike; what can't be compared counts as alike."""
+    if isinstance(one, (list, tuple)):
+        return len(one) == len(other) and all(same(a, b) for a, b in zip(one, other))
+    if isinstance(one, (int, str, bytes, dict, set)):
+        return one == other
+    return True
+
+
+def lists_in(value):
+    """All lists in an answer, itself included."""
+    if not isinstance(value, (list, tuple)):
+        return []
+    inner = [found for item in value for found in lists_in(item)]
+    return [value, *inner] if isinstance(value, list) else inner
+
+
+class AtOnce:
+    """Fails if what is done within it takes long (it is answered within a fraction of this)."""
+
+    def __init__(self, seconds=10):
+        self.seconds = seconds
+
+    def __enter__(self):
+        self.begin = time.process_time()
+
+    def __exit__(self, kind, value, trace):
+        taken = time.process_time() - self.begin
+        if kind is None:
+            assert taken < self.seconds, f"took {taken} seconds"
+
+
+# The definitions of the document, word by word, for small displays.
+
+
+def small_displays(most_places, most_slot):
+    """All displays with few places and short slots."""
+    return [
+        (places, slot, lit, driver)
+        for places in range(1, most_places + 1)
+        for slot in range(1, most_slot + 1)
+        for lit in range(1, slot + 1)
+        for driver in ("now", "round")
+    ]
+
+
+def lit_by_turns(display, place, tick):
+    """Whether a place is lit, found by going to the tick one by one."""
+    places, slot, lit, _ = display
+    state = -place * slot
+    step = 1 if tick >= 0 else -1
+    for _ in range(abs(tick)):
+        state += step
+    while state < 0:
+        state += places * slot
+    while state >= places * slot:
+        state -= places * slot
+    return state < lit
+
+
+def count_by_turns(display, history, tick):
+    number, presses = history
+    for press in presses:
+        if press <= tick:
+            number = 0 if number == 10 ** display[0] - 1 else number + 1
+    return number
+
+
+def shown_by_turns(display, history, tick):
+    if display[3] == "round":
+        while tick % (display[0] * display[1]) != 0:
+            tick -= 1
+    return count_by_turns(display, history, tick)
+
+
+def picture_by_turns(display, camera, history, begin):
+    """The picture, gathered tick by tick."""
+    exposure, need = camera
+    places, slot, lit, _ = display
+    gathered = [dict.fromkeys("abcdefg", 0) for _ in range(places)]
+    for tick in range(begin, begin + exposure):
+        turn = tick % (places * slot)
+        place = turn // slot
+        if turn - place * slot >= lit:
+            continue
+        digit = shown_by_turns(display, history, tick) // 10 ** (places - 1 - place) % 10
+        for segment in PATTERNS[digit]:
+            gathered[place][segment] += 1
+    return ["".join(segment for segment in "abcdefg" if ticks[segment] >= need) for ticks in gathered]

@@ -1,0 +1,145 @@
+"""The examples of the document, as they stand there, in points 5 to 9 and 12 to 15."""
+
+import doctest
+import unittest
+
+from litdigits.displays import is_lit, lit_place, round_of
+from litdigits.pictures import count_at, picture_of, reading_of, shown_at
+from litdigits.segments import is_pattern, pattern_of
+
+# The first words of a text are the point that it stands in.
+EXAMPLES = {
+    "12, patterns": """
+>>> from litdigits.segments import digit_of, is_pattern, pattern_of
+>>> [is_pattern(value) for value in ["abg", "", "ba", "aa", "h", None]]
+[True, True, False, False, False, False]
+>>> [pattern_of(4), digit_of("abc"), digit_of("abd"), digit_of("")]
+['bcfg', 7, None, None]
+""",
+    "12, unions": """
+>>> from litdigits.segments import common_of, torn_digit, union_of
+>>> [union_of("abcdg", "bcfg"), common_of("abcdg", "bcfg")]
+['abcdfg', 'bcg']
+>>> [torn_digit(one, other) for one, other in [(3, 4), (4, 5), (6, 7), (9, 0), (1, 2), (5, 6), (2, 2)]]
+[9, 9, 8, 8, None, 6, 2]
+""",
+    "12, lists": """
+>>> from litdigits.segments import digits_about, digits_within
+>>> [digits_within("abcdg"), digits_about("acd"), digits_within(""), digits_about("")]
+[[1, 3, 7], [0, 3, 5, 6, 8, 9], [], [0, 1, 2, 3, 4, 5, 6, 7, 8, 9]]
+""",
+    "13, displays": """
+>>> from litdigits.displays import is_display, is_lit, lit_place, round_of
+>>> some = [(3, 10, 8, "now"), (9, 10, 8, "now"), (3, 10, 11, "now"), (3, 10, 8, "later"), [3, 10, 8, "now"]]
+>>> [is_display(value) for value in some]
+[True, False, False, False, False]
+>>> display = (3, 10, 8, "now")
+>>> [round_of(display), [is_lit(display, 1, tick) for tick in [9, 10, 17, 18, 40, -20]]]
+[30, [False, True, True, False, True, True]]
+>>> [lit_place(display, tick) for tick in [0, 8, 25, 29, -1, -5]]
+[0, None, 2, None, None, 2]
+""",
+    "13, lit ticks": """
+>>> from litdigits.displays import lit_ticks, nth_lit
+>>> display = (3, 10, 8, "now")
+>>> [lit_ticks(display, 1, 0, 15), lit_ticks(display, 1, 12, 45), lit_ticks(display, 0, 7, 7), lit_ticks(display, 0, -30, 10 ** 29)]
+[5, 11, 0, 26666666666666666666666666680]
+>>> [nth_lit(display, 1, 12, index) for index in [0, 5, 6]] + [nth_lit(display, 2, -100, 0), nth_lit(display, 1, 18, 0)]
+[12, 17, 40, -100, 40]
+""",
+    "14": """
+>>> from litdigits.pictures import count_at, is_history, shown_at
+>>> display = (3, 10, 8, "round")
+>>> [is_history(display, value) for value in [(199, [9]), (1000, []), (0, [5, 5]), (0, (5,)), (0, [])]]
+[True, False, False, False, True]
+>>> [(count_at(display, (199, [9]), tick), shown_at(display, (199, [9]), tick)) for tick in [8, 9, 29, 30]]
+[(199, 199), (200, 199), (200, 199), (200, 200)]
+>>> [count_at(display, (999, [-4, 7]), tick) for tick in [-5, -4, 7]]
+[999, 0, 1]
+""",
+    "15, pictures": """
+>>> from litdigits.pictures import picture_of, reading_of
+>>> display = (3, 10, 8, "now")
+>>> [picture_of(display, (30, need), (3, [24]), 0) for need in [4, 5, 9]]
+[['abcdef', 'abcdef', 'abcdfg'], ['abcdef', 'abcdef', 'bcg'], ['', '', '']]
+>>> [reading_of(display, picture_of(display, (30, 4), (199, [press]), 0)) for press in [0, 9, 24, 30]]
+[200, 100, 198, 199]
+>>> picture_of((3, 10, 8, "round"), (30, 4), (199, [1]), 15)
+['abdeg', 'abcdef', 'abcdfg']
+>>> picture_of((1, 10, 10, "now"), (10, 6), (8, [3, 7]), 0)
+['abcdefg']
+""",
+    "15, films": """
+>>> from litdigits.pictures import film_of
+>>> film_of((3, 10, 8, "now"), (30, 4), (199, [9]), -30, 30, 3)
+[['bc', 'abcdfg', 'abcdfg'], ['bc', 'abcdef', 'abcdef'], ['abdeg', 'abcdef', 'abcdef']]
+""",
+}
+
+# The table of point 5: each digit with its pattern, two of them in a row.
+DIGITS = """
+| 0 | abcdef | 5 | acdfg |
+| 1 | bc | 6 | acdefg |
+| 2 | abdeg | 7 | abc |
+| 3 | abcdg | 8 | abcdefg |
+| 4 | bcfg | 9 | abcdfg |
+"""
+
+
+class Examples(unittest.TestCase):
+    def test_sessions(self):
+        for name, text in EXAMPLES.items():
+            with self.subTest(point=name):
+                test = doctest.DocTestParser().get_doctest(text, {}, name, None, 0)
+                self.assertGreater(len(test.examples), 1)
+                report = []
+                result = doctest.DocTestRunner(verbose=False).run(test, out=report.append)
+                self.assertEqual(result.failed, 0, "".join(report))
+                self.assertEqual(result.attempted, len(test.examples))
+
+    def test_point_5(self):
+        self.assertTrue(is_pattern("bcg"))
+        self.assertTrue(is_pattern(""))
+        words = [word for word in DIGITS.split() if word != "|"]
+        self.assertEqual(len(words), 20)
+        for digit, pattern in zip(words[::2], words[1::2]):
+            self.assertEqual(pattern_of(int(digit)), pattern)
+
+    def test_point_6(self):
+        display = (3, 10, 8, "now")
+        self.assertEqual(round_of(display), 3 * 10)
+        # The places are lit by turns, each one for lit ticks out of slot.
+        turns = [lit_place(display, tick) for tick in range(-30, 60)]
+        self.assertEqual(turns, ([0] * 8 + [None] * 2 + [1] * 8 + [None] * 2 + [2] * 8 + [None] * 2) * 3)
+
+    def test_point_7(self):
+        for places in range(1, 9):
+            display = (places, 10, 8, "now")
+            self.assertEqual(count_at(display, (10 ** places - 1, [5]), 4), 10 ** places - 1)
+            self.assertEqual(count_at(display, (10 ** places - 1, [5]), 5), 0)
+        # The digits of a number, with zeros in front, belong to the places.
+        picture = picture_of((4, 10, 8, "now"), (40, 4), (57, []), 0)
+        self.assertEqual(picture, ["abcdef", "abcdef", "acdfg", "abc"])
+
+    def test_point_8(self):
+        self.assertEqual([shown_at((3, 10, 8, "now"), (3, [24]), tick) for tick in (23, 24, 29, 30)], [3, 4, 4, 4])
+        self.assertEqual([shown_at((3, 10, 8, "round"), (3, [24]), tick) for tick in (23, 24, 29, 30)], [3, 3, 3, 4])
+        self.assertEqual([shown_at((3, 10, 8, "round"), (3, [30]), tick) for tick in (29, 30)], [3, 4])
+
+    def test_point_9(self):
+        display = (3, 10, 8, "now")
+        lit = [tick for tick in range(30) if is_lit(display, 2, tick)]
+        self.assertEqual(lit, [20, 21, 22, 23, 24, 25, 26, 27])
+        shown = [shown_at(display, (3, [24]), tick) for tick in lit]
+        self.assertEqual(shown, [3, 3, 3, 3, 4, 4, 4, 4])
+        self.assertEqual(picture_of(display, (30, 4), (3, [24]), 0)[2], "abcdfg")
+        self.assertEqual(pattern_of(9), "abcdfg")
+        self.assertEqual(reading_of(display, picture_of(display, (30, 4), (3, [24]), 0)), 9)
+        self.assertEqual(picture_of(display, (30, 5), (3, [24]), 0)[2], "bcg")
+        shown = [shown_at(display, (8, [22, 24]), tick) for tick in lit]
+        self.assertEqual([number % 10 for number in shown], [8, 8, 9, 9, 0, 0, 0, 0])
+        self.assertEqual(picture_of(display, (30, 4), (8, [22, 24]), 0)[2], "abcdefg")
+
+
+if __name__ == "__main__":
+    unittest.main()
