@@ -23,9 +23,14 @@ def check_display(value):
         raise InvalidDisplay(3)
 
 
+def is_place(display, value):
+    """Whether a value is a place of a display; the display is not checked."""
+    return is_within(value, 0, display[0] - 1)
+
+
 def check_place(display, value):
     """Raise InvalidPlace unless a value is a place of a display."""
-    if not is_within(value, 0, display[0] - 1):
+    if not is_place(display, value):
         raise InvalidPlace("a place is an integer from 0 on that is less than the number of places")
 
 
@@ -73,15 +78,25 @@ def lit_ahead(display, place, tick):
     return turns * lit + min(past, lit)
 
 
+def lit_between(display, place, begin, end):
+    """In how many ticks from begin to end - 1 a place is lit; end is at least begin. Nothing is checked."""
+    return lit_ahead(display, place, end) - lit_ahead(display, place, begin)
+
+
+def lit_tick(display, place, ahead):
+    """The tick in which a place is lit and ahead of which lit_ahead counts so many; nothing is checked."""
+    places, slot, lit, _ = display
+    turns, past = divmod(ahead, lit)
+    return (turns * places + place) * slot + past
+
+
 def lit_ticks(display, place, begin, end):
     """In how many ticks from begin to end - 1 a place is lit."""
     check_display(display)
     check_place(display, place)
     check_tick(begin)
     check_tick(end)
-    if end <= begin:
-        return 0
-    return lit_ahead(display, place, end) - lit_ahead(display, place, begin)
+    return lit_between(display, place, begin, end) if begin < end else 0
 
 
 def nth_lit(display, place, tick, index):
@@ -90,6 +105,4 @@ def nth_lit(display, place, tick, index):
     check_place(display, place)
     check_tick(tick)
     check_number_from(index, 0)
-    places, slot, lit, _ = display
-    turns, past = divmod(lit_ahead(display, place, tick) + index, lit)
-    return place * slot + turns * places * slot + past
+    return lit_tick(display, place, lit_ahead(display, place, tick) + index)

@@ -26,11 +26,21 @@ def are_presses(value):
     return all([one < other for one, other in zip(value, value[1:])])
 
 
+def is_number(display, value):
+    """Whether a value is a number of a display; the display is not checked."""
+    return is_within(value, 0, numbers_of(display) - 1)
+
+
+def check_number(display, value):
+    """Raise InvalidNumber unless a value is a number of a display."""
+    check_number_within(value, 0, numbers_of(display) - 1)
+
+
 def check_history(display, value):
     """Raise InvalidHistory unless a value is a history of a display."""
     if not isinstance(value, tuple) or len(value) != 2:
         raise InvalidHistory(None)
-    if not is_within(value[0], 0, numbers_of(display) - 1):
+    if not is_number(display, value[0]):
         raise InvalidHistory(0)
     if not are_presses(value[1]):
         raise InvalidHistory(1)
@@ -78,15 +88,20 @@ def count_at(display, history, tick):
     return counted_at(display, history, tick)
 
 
+def shown_until(display, tick):
+    """The last tick whose press is shown at a tick: that of each later one is not. Nothing is checked."""
+    places, slot, _, driver = display
+    if driver == NOW:
+        return tick
+    return tick - tick % (places * slot)
+
+
 def shown_at(display, history, tick):
     """The number that is shown at a tick."""
     check_display(display)
     check_history(display, history)
     check_tick(tick)
-    places, slot, _, driver = display
-    if driver == NOW:
-        return counted_at(display, history, tick)
-    return counted_at(display, history, tick - tick % (places * slot))
+    return counted_at(display, history, shown_until(display, tick))
 
 
 def shown_from(display, press):
@@ -162,17 +177,21 @@ def picture_of(display, camera, history, begin):
     return picture_begun(display, camera, history, begin)
 
 
-def reading_of(display, picture):
-    """The number whose digits a picture shows, None if some pattern is that of no digit."""
-    check_display(display)
-    check_picture(display, picture)
+def number_with(digits):
+    """The number with these digits, None if one of them is None."""
     number = 0
-    for pattern in picture:
-        digit = digit_of(pattern)
+    for digit in digits:
         if digit is None:
             return None
         number = number * 10 + digit
     return number
+
+
+def reading_of(display, picture):
+    """The number whose digits a picture shows, None if some pattern is that of no digit."""
+    check_display(display)
+    check_picture(display, picture)
+    return number_with([digit_of(pattern) for pattern in picture])
 
 
 def film_of(display, camera, history, first, period, many):

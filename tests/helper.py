@@ -22,7 +22,6 @@ PATTERNS = {
 ALL_PATTERNS = ["".join(some) for many in range(8) for some in itertools.combinations("abcdefg", many)]
 
 
-
 class Agreeable:
     """Equal to everything, and within all limits."""
 
@@ -178,3 +177,88 @@ def picture_by_turns(display, camera, history, begin):
         for segment in PATTERNS[digit]:
             gathered[place][segment] += 1
     return ["".join(segment for segment in "abcdefg" if ticks[segment] >= need) for ticks in gathered]
+
+
+def lit_count(display, place, begin, end):
+    """In how many ticks from begin to end - 1 a place is lit, counted tick by tick."""
+    places, slot, lit, _ = display
+    return sum((tick - place * slot) % (places * slot) < lit for tick in range(begin, end))
+
+
+def lit_until(display, place, begin, end):
+    """For each tick from begin to end how many ticks from begin on and ahead of it are lit, counted tick by tick."""
+    places, slot, lit, _ = display
+    lit_ones = [(tick - place * slot) % (places * slot) < lit for tick in range(begin, end)]
+    return [0, *itertools.accumulate(lit_ones)]
+
+
+def clear_by_turns(display, camera):
+    """For each begin from 0 to round - 1 the list of the places that are seen, counted tick by tick."""
+    exposure, need = camera
+    places, slot, _, _ = display
+    counts = [lit_until(display, place, 0, places * slot + exposure) for place in range(places)]
+    return [
+        [place for place in range(places) if counts[place][begin + exposure] - counts[place][begin] >= need]
+        for begin in range(places * slot)
+    ]
+
+
+def stretches_of(integers):
+    """The stretches of ascending integers, as few as possible."""
+    found = []
+    for some in integers:
+        if found and found[-1][1] == some - 1:
+            found[-1] = (found[-1][0], some)
+        else:
+            found.append((some, some))
+    return found
+
+
+def cameras_around(display):
+    """Cameras with exposures of parts of rounds and of many rounds, and needs around what can be lit."""
+    places, slot, lit, _ = display
+    turn = places * slot
+    found = {}
+    for exposure in (1, 2, turn // 2, turn - lit, turn - 1, turn, turn + 1, 2 * turn - 1, 2 * turn, 2 * turn + 1,
+                     4 * turn + turn // 2, 11 * turn + 1):
+        for more in range(-1, lit + 2):
+            need = exposure // turn * lit + more
+            if exposure > 0 and need > 0:
+                found[(exposure, need)] = True
+    return list(found)
+
+
+def torn_by_turns(display, camera, number, begin, press):
+    """The reading of a picture with a single press, from counts of the ticks ahead of the change and behind it."""
+    exposure, need = camera
+    places, slot, _, driver = display
+    change = press
+    while driver == "round" and change % (places * slot) != 0:
+        change += 1
+    change = min(max(change, begin), begin + exposure)
+    after = 0 if number == 10 ** places - 1 else number + 1
+    reading = 0
+    for place in range(places):
+        old, new = (some // 10 ** (places - 1 - place) % 10 for some in (number, after))
+        ticks = {old: 0, new: 0}
+        ticks[old] += lit_count(display, place, begin, change)
+        ticks[new] += lit_count(display, place, change, begin + exposure)
+        pattern = "".join(
+            segment for segment in "abcdefg"
+            if sum(many for digit, many in ticks.items() if segment in PATTERNS[digit]) >= need
+        )
+        digits = [digit for digit, known in PATTERNS.items() if known == pattern]
+        if not digits:
+            return None
+        reading = 10 * reading + digits[0]
+    return reading
+
+
+def presses_around(display, camera, begin):
+    """All presses that are shown from one of the ticks behind the begin and within the exposure, one by one."""
+    places, slot, _, driver = display
+    changes = range(begin + 1, begin + camera[0])
+    if driver == "now":
+        return list(changes)
+    turn = places * slot
+    return [tick for change in changes if change % turn == 0 for tick in range(change - turn + 1, change + 1)]

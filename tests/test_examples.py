@@ -1,4 +1,4 @@
-"""The examples of the document, as they stand there, in points 5 to 9 and 12 to 15."""
+"""The examples of the document, as they stand there, in points 5 to 9 and 12 to 22."""
 
 import doctest
 import unittest
@@ -73,6 +73,108 @@ EXAMPLES = {
 >>> from litdigits.pictures import film_of
 >>> film_of((3, 10, 8, "now"), (30, 4), (199, [9]), -30, 30, 3)
 [['bc', 'abcdfg', 'abcdfg'], ['bc', 'abcdef', 'abcdef'], ['abdeg', 'abcdef', 'abcdef']]
+""",
+    "16": """
+>>> from litdigits.clear import is_clear, seen_places
+>>> display = (3, 10, 8, "now")
+>>> [seen_places(display, (20, 8), begin) for begin in (0, 5, -30)]
+[[0, 1], [1], [0, 1]]
+>>> [is_clear(display, camera) for camera in [(30, 8), (29, 8), (29, 7)]]
+[True, False, True]
+
+>>> from litdigits.clear import clear_begins, seen_begins
+>>> display = (3, 10, 8, "now")
+>>> [seen_begins(display, (29, 8), 1), clear_begins(display, (29, 8)), clear_begins(display, (20, 8))]
+[[(0, 10), (19, 29)], [(0, 0), (9, 10), (19, 20), (29, 29)], []]
+
+>>> from litdigits.clear import dark_paper, shows_dark
+>>> display = (3, 10, 8, "now")
+>>> [shows_dark(display, (29, 8), value) for value in [(1, 0), (0, 0), (31, 0), (1, 3)]]
+[True, False, False, False]
+>>> dark_paper(display, (30, 8)) is None
+True
+""",
+    "17": """
+>>> from litdigits.clear import greatest_need, least_exposure
+>>> display = (3, 10, 8, "now")
+>>> [least_exposure(display, need) for need in (4, 8, 9)]
+[26, 30, 53]
+>>> [greatest_need(display, exposure) for exposure in (22, 23, 30, 60)]
+[0, 1, 8, 16]
+
+>>> from litdigits.clear import greatest_slot, least_lit
+>>> display = (3, 10, 8, "now")
+>>> [least_lit(display, camera) for camera in [(29, 8), (30, 8), (20, 8)]]
+[9, 8, None]
+>>> [greatest_slot(display, camera) for camera in [(30, 8), (60, 8), (60, 9), (20, 8)]]
+[10, 20, 11, None]
+""",
+    "18": """
+>>> from litdigits.drift import first_clear, first_dark
+>>> display, camera = (3, 10, 8, "now"), (29, 8)
+>>> [first_dark(display, camera, first, period) for first, period in [(0, 31), (0, 10), (9, 10), (5, 1)]]
+[1, None, None, 0]
+>>> [first_clear(display, camera, first, period) for first, period in [(1, 31), (5, 10), (20, 7)]]
+[8, None, 0]
+
+>>> from litdigits.drift import clear_firsts, count_dark
+>>> display, camera = (3, 10, 8, "now"), (29, 8)
+>>> [count_dark(display, camera, 0, 31, many) for many in (0, 1, 30, 10 ** 20)]
+[0, 0, 24, 80000000000000000000]
+>>> [clear_firsts(display, camera, 10), clear_firsts(display, camera, 31), clear_firsts(display, (30, 8), 31)]
+[(10, [(0, 0), (9, 9)]), (1, []), (1, [(0, 0)])]
+""",
+    "19": """
+>>> from litdigits.torn import press_span
+>>> [press_span((3, 10, 8, driver), (30, 4), begin) for driver, begin in [("now", 0), ("round", 15), ("round", 0)]]
+[(1, 29), (1, 30), None]
+
+>>> from litdigits.torn import torn_pictures
+>>> torn_pictures((1, 10, 8, "now"), (10, 4), 3, 0)
+[(1, 3, ['bcfg']), (4, 4, ['abcdfg']), (5, 9, ['abcdg'])]
+
+>>> from litdigits.torn import torn_readings
+>>> display = (3, 10, 8, "now")
+>>> [torn_readings(display, (30, need), 3, 0) for need in (4, 5)]
+[[(1, 23, 4), (24, 24, 9), (25, 29, 3)], [(1, 23, 4), (24, 24, None), (25, 29, 3)]]
+>>> torn_readings(display, (30, 4), 199, 0)
+[(1, 3, 200), (4, 4, None), (5, 13, 100), (14, 14, 180), (15, 23, 190), (24, 24, 198), (25, 29, 199)]
+>>> torn_readings((3, 10, 8, "round"), (30, 4), 199, 15)
+[(1, 30, 209)]
+""",
+    "20": """
+>>> from litdigits.torn import place_thresholds
+>>> display = (3, 10, 8, "now")
+>>> [place_thresholds(display, camera, 2, 0) for camera in [(30, 4), (30, 5), (20, 8)]]
+[(24, 24), (25, 23), None]
+""",
+    "21": """
+>>> from litdigits.lies import kind_of, lies_at
+>>> display = (3, 10, 8, "now")
+>>> [kind_of(display, number) for number in (120, 129, 199, 999)]
+[(0, 0), (1, 2), (2, 1), (3, 9)]
+>>> lies_at(display, (30, 4), 199, 0)
+[(5, 13, 100), (14, 14, 180), (15, 23, 190), (24, 24, 198)]
+
+>>> from litdigits.lies import can_lie
+>>> display = (3, 10, 8, "now")
+>>> [can_lie(display, (30, 4), 3), can_lie(display, (30, 5), 3), can_lie(display, (30, 5), 9)]
+[True, False, True]
+""",
+    "22": """
+>>> from litdigits.lies import lie_paper, shows_lie
+>>> display = (3, 10, 8, "now")
+>>> [shows_lie(display, (30, 4), 199, value) for value in [(0, 10), (0, 3), (30, 40), (0, 4), (0,)]]
+[True, False, True, False, False]
+>>> lie_paper(display, (30, 5), 3) is None
+True
+
+>>> from litdigits.lies import is_truthful, lying_kinds
+>>> display = (3, 10, 8, "now")
+>>> [kind for kind in lying_kinds(display, (30, 4)) if kind[0] == 0], len(lying_kinds(display, (30, 5)))
+([(0, 3), (0, 4), (0, 6)], 19)
+>>> [is_truthful((1, 10, 8, "now"), (10, need)) for need in (4, 5)]
+[False, True]
 """,
 }
 

@@ -4,7 +4,7 @@ import inspect
 import itertools
 import unittest
 
-from litdigits import displays, pictures, segments
+from litdigits import clear, displays, drift, lies, pictures, segments, torn
 from litdigits.errors import (
     InvalidCamera, InvalidDigit, InvalidDisplay, InvalidHistory, InvalidNumber, InvalidPattern, InvalidPicture,
     InvalidPlace, InvalidTick,
@@ -31,6 +31,7 @@ PICTURE = ["bc", "", "abdeg"], [
 ]
 PLACE = 1, [(value, InvalidPlace, "") for value in (-1, 3, 8, 10 ** 30, *NO_INTEGERS)]
 TICK = 12, [(value, InvalidTick, "") for value in NO_INTEGERS]
+NUMBER = 199, [(value, InvalidNumber, "") for value in (-1, 1000, 10 ** 30, *NO_INTEGERS)]
 INDEX = 5, [(value, InvalidNumber, "") for value in (-1, -10 ** 30, *NO_INTEGERS)]
 PERIOD = 30, [(value, InvalidNumber, "") for value in (0, -1, *NO_INTEGERS)]
 PICTURES = 3, [(value, InvalidNumber, "") for value in (-1, 61, *NO_INTEGERS)]
@@ -57,14 +58,44 @@ KINDS = {
     pictures.film_of: {
         "display": DISPLAY, "camera": CAMERA, "history": HISTORY, "first": TICK, "period": PERIOD, "many": PICTURES,
     },
+    clear.seen_places: {"display": DISPLAY, "camera": CAMERA, "begin": TICK},
+    clear.is_clear: {"display": DISPLAY, "camera": CAMERA},
+    clear.seen_begins: {"display": DISPLAY, "camera": CAMERA, "place": PLACE},
+    clear.clear_begins: {"display": DISPLAY, "camera": CAMERA},
+    clear.dark_paper: {"display": DISPLAY, "camera": CAMERA},
+    clear.least_exposure: {"display": DISPLAY, "need": PERIOD},
+    clear.greatest_need: {"display": DISPLAY, "exposure": PERIOD},
+    clear.least_lit: {"display": DISPLAY, "camera": CAMERA},
+    clear.greatest_slot: {"display": DISPLAY, "camera": CAMERA},
+    drift.first_dark: {"display": DISPLAY, "camera": CAMERA, "first": TICK, "period": PERIOD},
+    drift.first_clear: {"display": DISPLAY, "camera": CAMERA, "first": TICK, "period": PERIOD},
+    drift.count_dark: {"display": DISPLAY, "camera": CAMERA, "first": TICK, "period": PERIOD, "many": INDEX},
+    drift.clear_firsts: {"display": DISPLAY, "camera": CAMERA, "period": PERIOD},
+    torn.press_span: {"display": DISPLAY, "camera": CAMERA, "begin": TICK},
+    torn.torn_pictures: {"display": DISPLAY, "camera": CAMERA, "number": NUMBER, "begin": TICK},
+    torn.torn_readings: {"display": DISPLAY, "camera": CAMERA, "number": NUMBER, "begin": TICK},
+    torn.place_thresholds: {"display": DISPLAY, "camera": CAMERA, "place": PLACE, "begin": TICK},
+    lies.kind_of: {"display": DISPLAY, "number": NUMBER},
+    lies.lies_at: {"display": DISPLAY, "camera": CAMERA, "number": NUMBER, "begin": TICK},
+    lies.can_lie: {"display": DISPLAY, "camera": CAMERA, "number": NUMBER},
+    lies.lie_paper: {"display": DISPLAY, "camera": CAMERA, "number": NUMBER},
+    lies.lying_kinds: {"display": DISPLAY, "camera": CAMERA},
+    lies.is_truthful: {"display": DISPLAY, "camera": CAMERA},
+}
+
+# These take any value as their last argument, which is no error whatever it is.
+JUDGES = {
+    pictures.is_history: ({"display": DISPLAY}, [(199, [9]), (1000, []), (199, [9, 9])]),
+    clear.shows_dark: ({"display": DISPLAY, "camera": CAMERA}, [(0, 0), (30, 3), (-1, 0)]),
+    lies.shows_lie: ({"display": DISPLAY, "camera": CAMERA, "number": NUMBER}, [(0, 10), (0, 3), (10 ** 29, -10 ** 29)]),
 }
 
 
 class Sequence(unittest.TestCase):
-    def refused(self, function, values, error_class, field):
+    def refused(self, function, values, error_class, field, names=None):
         error = called(function, *values)
         self.assertIs(type(error), error_class, (function, values))
-        self.assertEqual(str(error), str(called(function, **dict(zip(KINDS[function], values)))))
+        self.assertEqual(str(error), str(called(function, **dict(zip(names or KINDS[function], values)))))
         # Errors without a field have no index at all.
         self.assertEqual(getattr(error, "index", ""), field, (function, values))
 
@@ -73,7 +104,8 @@ class Sequence(unittest.TestCase):
             self.assertEqual(list(inspect.signature(function).parameters), list(kinds), function)
         self.assertEqual(list(inspect.signature(segments.is_pattern).parameters), ["value"])
         self.assertEqual(list(inspect.signature(displays.is_display).parameters), ["value"])
-        self.assertEqual(list(inspect.signature(pictures.is_history).parameters), ["display", "value"])
+        for function, (kinds, _) in JUDGES.items():
+            self.assertEqual(list(inspect.signature(function).parameters), [*kinds, "value"], function)
 
     def test_good_arguments_stay_as_they_are(self):
         for function, kinds in KINDS.items():
@@ -105,14 +137,25 @@ class Sequence(unittest.TestCase):
             values[list(kinds).index(some[0])] = value
             self.refused(function, values, error_class, field)
 
-    def test_is_history_checks_the_display_first(self):
-        for display, error_class, field in DISPLAY[1]:
-            for value in (None, (199, [9]), (1000, [])):
-                error = called(pictures.is_history, display, value)
-                self.assertIs(type(error), error_class)
-                self.assertEqual(error.index, field)
-        for value, _, _ in HISTORY[1]:
-            self.assertIs(called(pictures.is_history, DISPLAY[0], value), False)
+    def test_any_value_is_judged(self):
+        for function, (kinds, others) in JUDGES.items():
+            good = [good for good, _ in kinds.values()]
+            for value in [*others, *NO_INTEGERS, [0, 0], 5]:
+                answer = called(function, *good, value)
+                self.assertIn(answer, (True, False), (function, value))
+                self.assertIs(called(function, **dict(zip(kinds, good)), value=value), answer)
+
+    def test_the_other_arguments_of_judges_are_checked_first(self):
+        for function, (kinds, others) in JUDGES.items():
+            good = [good for good, _ in kinds.values()]
+            for index, (_, wrong) in enumerate(kinds.values()):
+                # What stands behind the wrong argument is wrong, too, every other time.
+                later = [some[1][0][0] for some in list(kinds.values())[index + 1:]]
+                for value, error_class, field in wrong:
+                    for judged in (*others, None, ""):
+                        for behind in (good[index + 1:], later):
+                            values = [*good[:index], value, *behind, judged]
+                            self.refused(function, values, error_class, field, [*kinds, "value"])
 
     def test_huge_integers_are_refused_as_others_are(self):
         huge = 10 ** 5000
@@ -122,6 +165,12 @@ class Sequence(unittest.TestCase):
         self.refused(segments.pattern_of, [huge], InvalidDigit, "")
         self.refused(pictures.film_of, [DISPLAY[0], (30, 4), (3, []), 0, 30, huge], InvalidNumber, "")
         self.refused(pictures.count_at, [DISPLAY[0], (huge, []), 0], InvalidHistory, 0)
+        self.refused(clear.seen_begins, [DISPLAY[0], CAMERA[0], huge], InvalidPlace, "")
+        self.refused(clear.least_exposure, [DISPLAY[0], -huge], InvalidNumber, "")
+        self.refused(drift.count_dark, [DISPLAY[0], CAMERA[0], 0, 30, -huge], InvalidNumber, "")
+        self.refused(torn.torn_readings, [DISPLAY[0], CAMERA[0], huge, 0], InvalidNumber, "")
+        self.refused(lies.kind_of, [DISPLAY[0], -huge], InvalidNumber, "")
+        self.assertIs(called(clear.shows_dark, DISPLAY[0], CAMERA[0], (huge, 0)), False)
 
     def test_a_place_of_another_display(self):
         for places in range(1, 9):
