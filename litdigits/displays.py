@@ -78,6 +78,17 @@ def lit_ahead(display, place, tick):
     return turns * lit + min(past, lit)
 
 
+def all_lit_ahead(display, place, ticks):
+    """The list of what lit_ahead is at each of several ticks; nothing is checked."""
+    places, slot, lit, _ = display
+    start, cycle = place * slot, places * slot
+    # Written out once more, and without min, because there can be a thousand ticks for each place of each picture.
+    return [
+        turns * lit + (past if past < lit else lit)
+        for tick in ticks for turns, past in [divmod(tick - start, cycle)]
+    ]
+
+
 def lit_between(display, place, begin, end):
     """In how many ticks from begin to end - 1 a place is lit; end is at least begin. Nothing is checked."""
     return lit_ahead(display, place, end) - lit_ahead(display, place, begin)

@@ -1,12 +1,15 @@
 """Histories, what a display shows of them, and the pictures that a camera makes of it."""
 
-from litdigits.displays import NOW, check_display, lit_ahead
+from litdigits.displays import NOW, all_lit_ahead, check_display, lit_ahead
 from litdigits.errors import InvalidCamera, InvalidHistory, InvalidPicture
-from litdigits.integers import check_number_from, check_number_within, check_tick, is_from, is_integer, is_within
+from litdigits.integers import check_number_from, check_number_within, check_tick, is_from, is_within
 from litdigits.segments import PATTERNS, SEGMENTS, digit_of, is_pattern
 
 MOST_PRESSES = 1200
 MOST_PICTURES = 60
+
+# With so many presses in a round it is quicker to look for the last one of them than to go through all.
+CROWD = 8
 
 
 def numbers_of(display):
@@ -17,13 +20,39 @@ def numbers_of(display):
     return many
 
 
+def many_until(presses, tick, low, high):
+    """How many of ascending presses are not behind a tick, if it is known to be from low to high."""
+    while low < high:
+        middle = (low + high) // 2
+        if presses[middle] <= tick:
+            low = middle + 1
+        else:
+            high = middle
+    return low
+
+
+def has_truth(presses):
+    """Whether one of ascending presses is True or False."""
+    # True is 1 and False is 0 to every comparison, so they are the last ones up to 1.
+    many = many_until(presses, 1, 0, len(presses))
+    return any([isinstance(press, bool) for press in presses[max(0, many - 2):many]])
+
+
 def are_presses(value):
     """Whether a value is a list of ascending ticks that is not too long."""
     if not isinstance(value, list) or len(value) > MOST_PRESSES:
         return False
-    if not all([is_integer(press) for press in value]):
+    if not value:
+        return True
+    last = value[0]
+    if not isinstance(last, int):
         return False
-    return all([one < other for one, other in zip(value, value[1:])])
+    # Each call with a history goes through this loop for each press, so it calls as little as it can.
+    for press in value[1:]:
+        if not isinstance(press, int) or press <= last:
+            return False
+        last = press
+    return not has_truth(value)
 
 
 def is_number(display, value):
@@ -77,7 +106,7 @@ def is_history(display, value):
 def counted_at(display, history, tick):
     """The count at a tick; nothing is checked."""
     number, presses = history
-    return (number + len([press for press in presses if press <= tick])) % numbers_of(display)
+    return (number + many_until(presses, tick, 0, len(presses))) % numbers_of(display)
 
 
 def count_at(display, history, tick):
@@ -104,68 +133,77 @@ def shown_at(display, history, tick):
     return counted_at(display, history, shown_until(display, tick))
 
 
-def shown_from(display, press):
-    """The first tick at which a press is shown; nothing is checked."""
-    places, slot, _, driver = display
-    if driver == NOW:
-        return press
-    return press + -press % (places * slot)
-
-
-def steady_parts(display, history, begin, end):
-    """What is shown from begin to end - 1, as a list of tuples (end, digits).
-
-    Each part begins where the one before ends; its digits are those of the places.
-    Nothing is checked.
-    """
-    parts = []
-    at = begin
-    number, presses = history
-    for press in presses:
-        start = shown_from(display, press)
-        if start >= end:
-            break
-        # Several presses can be shown from one tick on; they make no part of their own.
-        if start > at:
-            parts.append((start, digits_of(display, number)))
-            at = start
-        number += 1
-    parts.append((end, digits_of(display, number)))
-    return parts
-
-
-def digits_of(display, number):
-    """The list of the digits of a number, modulo the numbers of the display, for each place."""
-    text = str(number % numbers_of(display)).zfill(display[0])
-    return [int(letter) for letter in text]
-
-
-def digit_ticks(display, place, begin, parts):
-    """In how many ticks a place is lit with each digit, as a list with ten items."""
-    ticks = [0] * len(PATTERNS)
-    before = lit_ahead(display, place, begin)
-    for end, digits in parts:
-        after = lit_ahead(display, place, end)
-        ticks[digits[place]] += after - before
-        before = after
+def crowded_ticks(display, first, changes, last):
+    """What digit_ticks returns with the driver "round", in less time if rounds have many of the changes."""
+    places, slot, lit, _ = display
+    cycle = places * slot
+    ticks = [0] * 10
+    passed = 0
+    before = first
+    for rounds in range(-(-changes[0] // cycle), -(-changes[-1] // cycle) + 1):
+        # At the begin of a round every place has been lit for lit ticks in each round ahead of it.
+        ticks[passed % 10] += rounds * lit - before
+        before = rounds * lit
+        passed = many_until(changes, rounds * cycle, passed, min(passed + cycle, len(changes)))
+    ticks[passed % 10] += last - before
     return ticks
 
 
-def gathered_pattern(ticks, need):
-    """The pattern of a place that is lit with each digit in so many ticks."""
-    found = []
-    for segment in SEGMENTS:
-        lit = sum([many for many, pattern in zip(ticks, PATTERNS) if segment in pattern])
-        if lit >= need:
-            found.append(segment)
-    return "".join(found)
+def digit_ticks(display, place, first, changes, last):
+    """In how many ticks a place is lit with each of its digits, at most ten, beginning with the first one.
+
+    first and last are what lit_ahead is at the begin of a picture and at its end, and changes
+    are the presses, one or more, with which the place has the next digit. Nothing is checked.
+    """
+    places, slot, lit, driver = display
+    cycle = places * slot
+    if driver == NOW:
+        ahead = all_lit_ahead(display, place, changes)
+    elif (changes[-1] - changes[0]) * CROWD < cycle * len(changes):
+        return crowded_ticks(display, first, changes, last)
+    else:
+        ahead = [-(-press // cycle) * lit for press in changes]
+    ahead = [first] + ahead + [last]
+    if len(changes) < 10:
+        return [after - before for before, after in zip(ahead, ahead[1:])]
+    # Behind ten digits the first one comes again, so the parts of a digit are ten parts from each other.
+    return [sum(ahead[index + 1::10]) - sum(ahead[index:-1:10]) for index in range(10)]
+
+
+def gathered_pattern(ticks, digit, need):
+    """The pattern of a place that is lit in so many ticks with a digit, the next one and so on."""
+    lit = {segment: 0 for segment in SEGMENTS}
+    for index, many in enumerate(ticks):
+        if many > 0:
+            for segment in PATTERNS[(digit + index) % 10]:
+                lit[segment] += many
+    return "".join([segment for segment in SEGMENTS if lit[segment] >= need])
 
 
 def picture_begun(display, camera, history, begin):
     """The picture of a history that is begun at a tick; nothing is checked."""
     exposure, need = camera
-    parts = steady_parts(display, history, begin, begin + exposure)
-    return [gathered_pattern(digit_ticks(display, place, begin, parts), need) for place in range(display[0])]
+    number, presses = history
+    end = begin + exposure
+    before = many_until(presses, shown_until(display, begin), 0, len(presses))
+    after = many_until(presses, shown_until(display, end - 1), before, len(presses))
+    within = presses[before:after]
+    count = number + before
+    picture = []
+    weight = numbers_of(display)
+    for place in range(display[0]):
+        weight = weight // 10
+        # The digit of a place goes on only where the count comes to a multiple of its weight.
+        changes = within[weight - 1 - count % weight::weight]
+        first, last = lit_ahead(display, place, begin), lit_ahead(display, place, end)
+        if last - first < need:
+            picture.append("")
+        elif not changes:
+            picture.append(PATTERNS[count // weight % 10])
+        else:
+            ticks = digit_ticks(display, place, first, changes, last)
+            picture.append(gathered_pattern(ticks, count // weight, need))
+    return picture
 
 
 def picture_of(display, camera, history, begin):

@@ -7,7 +7,7 @@ enough changes at two presses only, so the span falls into few rows.
 
 from litdigits.displays import check_display, check_place, lit_ahead, lit_tick
 from litdigits.integers import check_tick
-from litdigits.pictures import check_camera, check_number, digits_of, number_with, shown_until
+from litdigits.pictures import check_camera, check_number, number_with, numbers_of, shown_until
 from litdigits.segments import PATTERNS, common_of, digit_of, union_of
 
 # The states of a place in a torn picture: which of its two digits is lit for long enough by itself.
@@ -66,6 +66,12 @@ def torn_rows(display, camera, begin):
     starts = [least, *later]
     ends = [start - 1 for start in later] + [greatest]
     return [(start, end, [state_at(pair, start) for pair in turns]) for start, end in zip(starts, ends)]
+
+
+def digits_of(display, number):
+    """The list of the digits of a number, modulo the numbers of the display, for each place."""
+    text = str(number % numbers_of(display)).zfill(display[0])
+    return [int(letter) for letter in text]
 
 
 def torn_patterns(old, new):

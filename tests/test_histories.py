@@ -1,10 +1,12 @@
 """Points 7, 8 and 14."""
 
 import random
+import time
 import unittest
 
 from litdigits import pictures
 from litdigits.errors import InvalidHistory
+from litdigits.integers import is_integer
 from litdigits.pictures import count_at, film_of, is_history, picture_of, shown_at
 from tests.helper import NO_INTEGERS, AtOnce, called, count_by_turns, shown_by_turns, small_displays
 
@@ -81,6 +83,99 @@ class Histories(unittest.TestCase):
         self.refused((0, [*MANY[:-1], 598]), 1)
         self.refused((0, [*MANY[:-1], None]), 1)
         self.refused((0, [0] * 1200), 1)
+
+
+class LongHistories(unittest.TestCase):
+    """Histories with 1,200 presses: each of them is looked at, and that takes not too long."""
+
+    def judged(self, presses, good, driver):
+        display = (3, 10, 8, driver)
+        before = list(presses)
+        self.assertIs(is_history(display, (5, presses)), good)
+        self.assertEqual(presses, before)
+        for function in (count_at, shown_at):
+            for tick in (-10 ** 29, 0, 600, 10 ** 29):
+                answer = called(function, display, (5, presses), tick)
+                # Lists are compared with their kinds: True is not to become 1.
+                self.assertEqual([(type(press), press) for press in presses], [(type(press), press) for press in before])
+                if good:
+                    at = tick - tick % 30 if function is shown_at and driver == "round" else tick
+                    self.assertEqual(answer, count_by_turns(display, (5, presses), at))
+                else:
+                    self.assertIs(type(answer), InvalidHistory)
+                    self.assertEqual(answer.index, 1)
+
+    def test_only_the_last_press_is_wrong(self):
+        ahead = list(range(-1199, 0))
+        huge = [10 ** 28 + many * 10 ** 24 for many in range(1199)]
+        for driver in ("now", "round"):
+            for presses in (ahead, huge):
+                self.judged([*presses, presses[-1] + 1], True, driver)
+                self.judged([*presses, presses[-1]], False, driver)
+                self.judged([*presses, presses[-1] - 1], False, driver)
+                self.judged([*presses, -10 ** 29], False, driver)
+                for wrong in (None, "5", 5.0, float(10 ** 29), [10 ** 29], (10 ** 29,), True, False):
+                    self.judged([*presses, wrong], False, driver)
+
+    def test_only_one_press_is_wrong(self):
+        good = list(range(0, 2400, 2))
+        for index in (0, 1, 2, 599, 600, 1198, 1199):
+            for wrong in (None, "5", 2.0 * index, True, False, 2 * index - 2, 2 * index + 2):
+                presses = [*good[:index], wrong, *good[index + 1:]]
+                # The first press can be less, the last one greater.
+                right = type(wrong) is int and (index == 0 and wrong < 0 or index == 1199 and wrong > 2398)
+                self.judged(presses, right, "now")
+
+    def test_true_and_false_at_the_places_of_1_and_0(self):
+        for many in (0, 1, 2, 600, 1197):
+            below, above = list(range(-many, 0)), list(range(2, 1200 - many))
+            self.judged([*below, 0, 1, *above], True, "now")
+            for wrong in ([0, True], [False, 1], [False, True], [True], [False], [False, True, True]):
+                self.judged([*below, *wrong, *above], False, "round")
+                self.judged([*below, *wrong], False, "now")
+                self.judged([*wrong, *above], False, "now")
+
+    def test_1200_are_taken_and_1201_are_refused(self):
+        for first, step in [(0, 1), (-600, 1), (-10 ** 29, 10 ** 26), (10 ** 29, 1)]:
+            presses = [first + step * many for many in range(1201)]
+            for driver in ("now", "round"):
+                self.judged(presses[:1200], True, driver)
+                self.judged(presses[1:], True, driver)
+                self.judged(presses, False, driver)
+                self.judged([*presses[:1200], presses[1198]], False, driver)
+
+    def test_at_each_press_and_beside_it(self):
+        presses = [many * many for many in range(-600, 0)][::-1] + [10 ** 6 + 30 * many for many in range(600)]
+        for driver in ("now", "round"):
+            display = (4, 10, 8, driver)
+            for tick in [press + past for press in presses[::40] for past in (-1, 0, 1)] + [-10 ** 29, 10 ** 29]:
+                at = tick - tick % 40 if driver == "round" else tick
+                self.assertEqual(shown_at(display, (9000, presses), tick), count_by_turns(display, (9000, presses), at))
+                self.assertEqual(count_at(display, (9000, presses), tick), count_by_turns(display, (9000, presses), tick))
+
+    def plain_count(self, display, history, tick):
+        """The count, with each press asked by calls of its own whether it is a tick, and all of them counted."""
+        number, presses = history
+        self.assertTrue(isinstance(presses, list) and len(presses) <= 1200)
+        self.assertTrue(all([is_integer(press) for press in presses]))
+        self.assertTrue(all([one < other for one, other in zip(presses, presses[1:])]))
+        return (number + len([press for press in presses if press <= tick])) % 10 ** display[0]
+
+    def test_at_most_half_of_the_time_that_plain_counting_takes(self):
+        presses = list(range(1200))
+        ticks = [*range(0, 1200, 60), 599, 601, -1, 1200, 1201, 30, 31, -10 ** 29, 10 ** 29]
+        self.assertEqual([count_at(DISPLAY, (5, presses), tick) for tick in ticks],
+                         [self.plain_count(DISPLAY, (5, presses), tick) for tick in ticks])
+        for function in (count_at, shown_at):
+            least = {function: float("inf"), self.plain_count: float("inf")}
+            # By turns, and the least time of each, so that it does not matter what else the machine does.
+            for _ in range(25):
+                for one in least:
+                    begin = time.process_time()
+                    for tick in ticks:
+                        one(DISPLAY, (5, presses), tick)
+                    least[one] = min(least[one], time.process_time() - begin)
+            self.assertLess(2 * least[function], least[self.plain_count])
 
 
 class Counts(unittest.TestCase):

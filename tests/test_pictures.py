@@ -188,6 +188,34 @@ class LargeNumbers(unittest.TestCase):
             expected = "".join(segment for segment in "abcdefg" if ticks[segment] >= need)
             self.assertEqual(picture_of((1, 9, 9, "now"), (exposure, need), (0, presses), 0), [expected])
 
+    def test_many_presses_tick_by_tick(self):
+        # Some displays have many of the presses in a round, some one, some have many rounds between two of them.
+        choice = random.Random(1200)
+        for display in [(1, 1, 1, "round"), (1, 9, 5, "round"), (2, 5, 4, "round"), (3, 10, 8, "round"), (3, 400, 300, "round"),
+                        (8, 2, 1, "round"), (1, 1, 1, "now"), (2, 5, 4, "now"), (3, 10, 8, "now"), (8, 2, 2, "now")]:
+            for step in (1, 2, 7, 40):
+                presses = [step * many + choice.randrange(step) for many in range(-400, 800)]
+                for exposure in (7, 60, 250):
+                    begin = choice.randrange(-420, 850) * step
+                    camera = (exposure, choice.choice([1, 2, 4, exposure // 8 + 1]))
+                    history = (choice.randrange(10 ** display[0]), presses)
+                    found = called(picture_of, display, camera, history, begin)
+                    self.assertEqual(found, picture_by_turns(display, camera, history, begin), (display, step, camera, begin))
+
+    def test_1200_presses_in_great_rounds(self):
+        slot = 10 ** 26 + 9
+        display = (3, slot, slot - 10 ** 20, "round")
+        turn = 3 * slot
+        # All of them in one round, each in a round of its own, and a hundred in each of twelve rounds.
+        for presses in [
+            [5 * turn + 1 + many for many in range(1200)], [turn * many + many for many in range(1200)],
+            [turn * many + past for many in range(12) for past in range(100)],
+        ]:
+            last = presses[-1]
+            changes = [multiple for multiple in range(turn, last + turn + 1, turn)]
+            with AtOnce():
+                self.check_thresholds(display, last + turn, (950, presses), 1, changes)
+
     def test_film_of_60_pictures_with_1200_presses_is_made_at_once(self):
         with AtOnce(30):
             film = film_of((8, 10, 8, "now"), (1300, 4), (0, MANY), -650, 1, 60)
