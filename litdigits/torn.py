@@ -7,8 +7,8 @@ enough changes at two presses only, so the span falls into few rows.
 
 from litdigits.displays import check_display, check_place, lit_ahead, lit_tick
 from litdigits.integers import check_tick
-from litdigits.pictures import check_camera, check_number, number_with, numbers_of, shown_until
-from litdigits.segments import PATTERNS, common_of, digit_of, union_of
+from litdigits.pictures import check_camera, check_number, number_with, shown_until
+from litdigits.segments import PATTERNS
 
 # The states of a place in a torn picture: which of its two digits is lit for long enough by itself.
 # If neither is, the segments that both have can still be; a dark place is not seen at all.
@@ -17,6 +17,34 @@ OLD = 1
 NEW = 2
 BOTH = 3
 DARK = 4
+
+# For each digit the patterns that a place shows in each state, if this digit becomes the next one, 9 becomes 0.
+TORN_PATTERNS = (
+    ("bc", "abcdef", "bc", "abcdef", ""),
+    ("b", "bc", "abdeg", "abcdeg", ""),
+    ("abdg", "abdeg", "abcdg", "abcdeg", ""),
+    ("bcg", "abcdg", "bcfg", "abcdfg", ""),
+    ("cfg", "bcfg", "acdfg", "abcdfg", ""),
+    ("acdfg", "acdfg", "acdefg", "acdefg", ""),
+    ("ac", "acdefg", "abc", "abcdefg", ""),
+    ("abc", "abc", "abcdefg", "abcdefg", ""),
+    ("abcdfg", "abcdefg", "abcdfg", "abcdefg", ""),
+    ("abcdf", "abcdfg", "abcdef", "abcdefg", ""),
+)
+
+# The digits that these patterns show.
+TORN_DIGITS = (
+    (1, 0, 1, 0, None),
+    (None, 1, 2, None, None),
+    (None, 2, 3, None, None),
+    (None, 3, 4, 9, None),
+    (None, 4, 5, 9, None),
+    (5, 5, 6, 6, None),
+    (None, 6, 7, 8, None),
+    (7, 7, 8, 8, None),
+    (9, 8, 9, 8, None),
+    (None, 9, 0, 8, None),
+)
 
 
 def span_within(display, camera, begin):
@@ -68,27 +96,31 @@ def torn_rows(display, camera, begin):
     return [(start, end, [state_at(pair, start) for pair in turns]) for start, end in zip(starts, ends)]
 
 
-def digits_of(display, number):
-    """The list of the digits of a number, modulo the numbers of the display, for each place."""
-    text = str(number % numbers_of(display)).zfill(display[0])
-    return [int(letter) for letter in text]
-
-
-def torn_patterns(old, new):
-    """The list of the patterns that a place shows, at the index of each state, if one digit becomes another."""
-    one, other = PATTERNS[old], PATTERNS[new]
-    return [common_of(one, other), one, other, union_of(one, other), ""]
+def changes_of_press(display, number):
+    """For each place its digit, and whether a press changes it: all digits behind it are 9. Nothing is checked."""
+    found = []
+    changes = True
+    for _ in range(display[0]):
+        number, digit = divmod(number, 10)
+        found.append((digit, changes))
+        changes = changes and digit == 9
+    return found[::-1]
 
 
 def patterns_of_press(display, number):
     """For each place the patterns that it shows in each state, if the number is pressed once; nothing is checked."""
-    old_digits, new_digits = digits_of(display, number), digits_of(display, number + 1)
-    return [torn_patterns(old, new) for old, new in zip(old_digits, new_digits)]
+    return [
+        TORN_PATTERNS[digit] if changes else (PATTERNS[digit], ) * DARK + ("", )
+        for digit, changes in changes_of_press(display, number)
+    ]
 
 
 def digits_of_press(display, number):
     """For each place the digits that it shows in each state, None for no digit; nothing is checked."""
-    return [[digit_of(pattern) for pattern in patterns] for patterns in patterns_of_press(display, number)]
+    return [
+        TORN_DIGITS[digit] if changes else (digit, ) * DARK + (None, )
+        for digit, changes in changes_of_press(display, number)
+    ]
 
 
 def in_states(table, states):

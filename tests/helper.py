@@ -262,3 +262,87 @@ def presses_around(display, camera, begin):
         return list(changes)
     turn = places * slot
     return [tick for change in changes if change % turn == 0 for tick in range(change - turn + 1, change + 1)]
+
+
+def far_apart(begin, end, gap):
+    """All lists of ticks from begin to end, each one at least gap behind the one before."""
+    found = [[]]
+    for press in range(begin, end + 1):
+        found += [[press, *later] for later in far_apart(press + gap, end, gap)]
+    return found
+
+
+def span_by_turns(display, camera, begin):
+    """The ascending list of the presses that are shown from a tick behind the begin and within the exposure."""
+    return sorted(presses_around(display, camera, begin))
+
+
+def shown_from(display, press):
+    """The tick from which a press is shown."""
+    while display[3] == "round" and press % (display[0] * display[1]) != 0:
+        press += 1
+    return press
+
+
+class PicturesByTurns:
+    """Pictures of one display and camera, gathered tick by tick, and kept by what there is to be seen."""
+
+    def __init__(self, display, camera):
+        self.display, self.camera, self.kept = display, camera, {}
+
+    def picture(self, history, begin):
+        number, presses = history
+        changes = [shown_from(self.display, press) for press in presses]
+        shown = (number + sum(change <= begin for change in changes)) % 10 ** self.display[0]
+        within = tuple(press for press, change in zip(presses, changes) if begin < change < begin + self.camera[0])
+        key = (shown, within, begin)
+        if key not in self.kept:
+            self.kept[key] = picture_by_turns(self.display, self.camera, (shown, list(within)), begin)
+        return list(self.kept[key])
+
+
+def films_by_turns(display, camera, gap, begins):
+    """All films with these begins that histories with presses far enough apart have.
+
+    A dict: for the tuple of the pictures (as tuples) the set of the tuples of the numbers shown at the begins.
+    """
+    pictures = PicturesByTurns(display, camera)
+    turn = display[0] * display[1] if display[3] == "round" else 1
+    found = {}
+    for presses in far_apart(begins[0] - turn, begins[-1] + camera[0], gap):
+        for number in range(10 ** display[0]):
+            history = (number, presses)
+            film = tuple(tuple(pictures.picture(history, begin)) for begin in begins)
+            found.setdefault(film, set()).add(tuple(shown_by_turns(display, history, begin) for begin in begins))
+    return found
+
+
+def told_by_ticks(display, camera, gap, film):
+    """The set of the tuples of the numbers shown at the begins, of all histories that fit.
+
+    Goes from tick to tick; of a history it keeps the numbers shown, the count and how long no press can come.
+    """
+    pictures = PicturesByTurns(display, camera)
+    many = 10 ** display[0]
+    states = {((), number, 0) for number in range(many)}
+    tick = None
+    for begin, picture in film:
+        span = span_by_turns(display, camera, begin)
+        turn = display[0] * display[1]
+        first = span[0] if span else (begin + 1 if display[3] == "now" else begin // turn * turn + 1)
+        # Between the pictures: in each tick there is a press, or none.
+        while tick is not None and tick < first:
+            pressed = {(shown, (count + 1) % many, gap - 1) for shown, count, left in states if left == 0}
+            states = {(shown, count, max(0, left - 1)) for shown, count, left in states} | pressed
+            tick += 1
+        tick = first + len(span)
+        later = set()
+        for shown, count, left in states:
+            if pictures.picture((count, []), begin) == picture:
+                later.add(((*shown, count), count, max(0, left - len(span))))
+            for index, press in enumerate(span):
+                if index >= left and pictures.picture((count, [press]), begin) == picture:
+                    wait = max(0, gap - (len(span) - index))
+                    later.add(((*shown, count), (count + 1) % many, wait))
+        states = later
+    return {shown for shown, _, _ in states}

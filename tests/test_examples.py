@@ -1,4 +1,4 @@
-"""The examples of the document, as they stand there, in points 5 to 9 and 12 to 22."""
+"""The examples of the document, as they stand there, in points 5 to 9 and 12 to 27."""
 
 import doctest
 import unittest
@@ -175,6 +175,54 @@ True
 ([(0, 3), (0, 4), (0, 6)], 19)
 >>> [is_truthful((1, 10, 8, "now"), (10, need)) for need in (4, 5)]
 [False, True]
+""",
+    "23": """
+>>> from litdigits.explained import explanations_of, is_explained, numbers_behind
+>>> display, camera, picture = (3, 10, 8, "now"), (30, 4), ["bc", "abdeg", "abcdfg"]
+>>> explanations_of(display, camera, 0, picture)
+[(123, (24, 24)), (124, (24, 24)), (128, (1, 23)), (129, None), (129, (25, 29))]
+>>> [numbers_behind(display, camera, 0, picture), is_explained(display, camera, 0, ["", "", ""])]
+[[123, 124, 128, 129], False]
+""",
+    "24": """
+>>> from litdigits.films import film_fits, first_misfit
+>>> display, camera = (2, 10, 8, "now"), (20, 4)
+>>> ten, twenty, thirty = ["bc", "abcdef"], ["abdeg", "abcdef"], ["abcdg", "abcdef"]
+>>> [film_fits(display, camera, 20, [(0, ten), (20, later)]) for later in (ten, twenty, thirty)]
+[True, True, False]
+>>> [first_misfit(display, camera, 20, film) for film in ([(0, ten), (20, twenty)], [(0, ten), (20, thirty)], [(0, [""] * 2)])]
+[None, 1, 0]
+""",
+    "25": """
+>>> from litdigits.told import numbers_at, shows_history, sure_numbers
+>>> display, camera = (2, 10, 8, "now"), (20, 4)
+>>> ten, twenty = ["bc", "abcdef"], ["abdeg", "abcdef"]
+>>> film = [(0, ten), (20, twenty)]
+>>> [numbers_at(display, camera, 20, film[:1], 0), numbers_at(display, camera, 20, film, 0), sure_numbers(display, camera, 20, film)]
+[[9, 10, 19], [19], [19, 20]]
+>>> some = [(19, [5]), (19, [4]), (10, []), (19, [13, 34]), (19, [13, 32])]
+>>> [shows_history(display, camera, 20, film, value) for value in some]
+[True, False, False, True, False]
+""",
+    "26": """
+>>> from litdigits.paces import number_row, paced_count, paced_history
+>>> display, counter = (3, 10, 8, "now"), (5, 0, 7)
+>>> [paced_count(display, counter, tick) for tick in (-1, 0, 6, 7, 7000, 7 * 10 ** 28)]
+[4, 5, 5, 6, 5, 5]
+>>> [number_row(display, counter, 0, 30, 5), paced_history(display, counter, 10, 30), paced_history(display, counter, 14, 20)]
+[[5, 9, 13, 17, 22], (6, [14, 21, 28]), (7, [])]
+""",
+    "27": """
+>>> from litdigits.paces import count_steps, first_step, row_again, seen_steps
+>>> display, counter = (3, 10, 8, "now"), (5, 0, 7)
+>>> [seen_steps(display, 7, 30), seen_steps(display, 7, 28), seen_steps(display, 1, 999), seen_steps(display, 3, 2999)]
+[[4, 5], [4], [999], [0, 999]]
+>>> [first_step(display, counter, 0, 30, step) for step in (4, 5, 6)]
+[0, 3, None]
+>>> [count_steps(display, counter, 0, 30, 5, many) for many in (3, 4, 7, 10 ** 20)]
+[0, 1, 2, 28571428571428571428]
+>>> [row_again(display, 7, 30), row_again(display, 7, 7000), row_again(display, 1, 999)]
+[700, 1, 1000]
 """,
 }
 

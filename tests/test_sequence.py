@@ -4,10 +4,10 @@ import inspect
 import itertools
 import unittest
 
-from litdigits import clear, displays, drift, lies, pictures, segments, torn
+from litdigits import clear, displays, drift, explained, films, lies, paces, pictures, segments, told, torn
 from litdigits.errors import (
-    InvalidCamera, InvalidDigit, InvalidDisplay, InvalidHistory, InvalidNumber, InvalidPattern, InvalidPicture,
-    InvalidPlace, InvalidTick,
+    InvalidCamera, InvalidCounter, InvalidDigit, InvalidDisplay, InvalidFilm, InvalidHistory, InvalidNumber,
+    InvalidPattern, InvalidPicture, InvalidPlace, InvalidTick,
 )
 from tests.helper import NO_INTEGERS, called
 
@@ -37,6 +37,20 @@ PERIOD = 30, [(value, InvalidNumber, "") for value in (0, -1, *NO_INTEGERS)]
 PICTURES = 3, [(value, InvalidNumber, "") for value in (-1, 61, *NO_INTEGERS)]
 PATTERN = "bcg", [(value, InvalidPattern, "") for value in (None, "cb", "aa", "h", 8, ["b"], True)]
 DIGIT = 4, [(value, InvalidDigit, "") for value in (-1, 10, *NO_INTEGERS)]
+GAP = 40, [(value, InvalidNumber, "") for value in (29, 0, -40, *NO_INTEGERS)]
+FILM = [(0, ["bc", "bc", "bc"]), (30, ["", "bc", "bc"])], [
+    (None, InvalidFilm, None), (((0, ["", "", ""]), ), InvalidFilm, None), ([None] * 13, InvalidFilm, None),
+    ([None], InvalidFilm, 0), ([(0, ["", "", ""]), (29, ["", "", ""])], InvalidFilm, 1),
+    ([(0, ["", "", ""]), (30, ["", ""])], InvalidFilm, 1), ([(True, ["", "", ""])], InvalidFilm, 0),
+]
+# This one fits: seen from these begins, both pictures are those of a number.
+FITTING = [(0, ["bc", "bc", "bc"]), (30, ["bc", "bc", "bc"])], FILM[1]
+SHOWN = 1, [(value, InvalidNumber, "") for value in (-1, 2, 12, *NO_INTEGERS)]
+COUNTER = (5, 0, 7), [
+    (None, InvalidCounter, None), ([5, 0, 7], InvalidCounter, None), ((5, 0), InvalidCounter, None),
+    ((1000, "", 0), InvalidCounter, 0), ((5, "", 0), InvalidCounter, 1), ((5, 0, 0), InvalidCounter, 2),
+]
+END = 40, [(value, InvalidTick, "") for value in (11, -10 ** 29, *NO_INTEGERS)]
 
 KINDS = {
     segments.pattern_of: {"digit": DIGIT},
@@ -81,6 +95,23 @@ KINDS = {
     lies.lie_paper: {"display": DISPLAY, "camera": CAMERA, "number": NUMBER},
     lies.lying_kinds: {"display": DISPLAY, "camera": CAMERA},
     lies.is_truthful: {"display": DISPLAY, "camera": CAMERA},
+    explained.explanations_of: {"display": DISPLAY, "camera": CAMERA, "begin": TICK, "picture": PICTURE},
+    explained.numbers_behind: {"display": DISPLAY, "camera": CAMERA, "begin": TICK, "picture": PICTURE},
+    explained.is_explained: {"display": DISPLAY, "camera": CAMERA, "begin": TICK, "picture": PICTURE},
+    films.film_fits: {"display": DISPLAY, "camera": CAMERA, "gap": GAP, "film": FILM},
+    films.first_misfit: {"display": DISPLAY, "camera": CAMERA, "gap": GAP, "film": FILM},
+    told.numbers_at: {"display": DISPLAY, "camera": CAMERA, "gap": GAP, "film": FITTING, "index": SHOWN},
+    told.sure_numbers: {"display": DISPLAY, "camera": CAMERA, "gap": GAP, "film": FITTING},
+    told.history_paper: {"display": DISPLAY, "camera": CAMERA, "gap": GAP, "film": FILM},
+    paces.paced_count: {"display": DISPLAY, "counter": COUNTER, "tick": TICK},
+    paces.number_row: {"display": DISPLAY, "counter": COUNTER, "first": TICK, "period": PERIOD, "many": PICTURES},
+    paces.paced_history: {"display": DISPLAY, "counter": COUNTER, "begin": TICK, "end": END},
+    paces.seen_steps: {"display": DISPLAY, "pace": PERIOD, "period": PERIOD},
+    paces.first_step: {"display": DISPLAY, "counter": COUNTER, "first": TICK, "period": PERIOD, "step": NUMBER},
+    paces.count_steps: {
+        "display": DISPLAY, "counter": COUNTER, "first": TICK, "period": PERIOD, "step": NUMBER, "many": INDEX,
+    },
+    paces.row_again: {"display": DISPLAY, "pace": PERIOD, "period": PERIOD},
 }
 
 # These take any value as their last argument, which is no error whatever it is.
@@ -88,6 +119,9 @@ JUDGES = {
     pictures.is_history: ({"display": DISPLAY}, [(199, [9]), (1000, []), (199, [9, 9])]),
     clear.shows_dark: ({"display": DISPLAY, "camera": CAMERA}, [(0, 0), (30, 3), (-1, 0)]),
     lies.shows_lie: ({"display": DISPLAY, "camera": CAMERA, "number": NUMBER}, [(0, 10), (0, 3), (10 ** 29, -10 ** 29)]),
+    told.shows_history: (
+        {"display": DISPLAY, "camera": CAMERA, "gap": GAP, "film": FITTING}, [(111, []), (110, [0]), (111, [5, 44]), (1000, [])],
+    ),
 }
 
 
@@ -171,6 +205,10 @@ class Sequence(unittest.TestCase):
         self.refused(torn.torn_readings, [DISPLAY[0], CAMERA[0], huge, 0], InvalidNumber, "")
         self.refused(lies.kind_of, [DISPLAY[0], -huge], InvalidNumber, "")
         self.assertIs(called(clear.shows_dark, DISPLAY[0], CAMERA[0], (huge, 0)), False)
+        self.refused(told.numbers_at, [DISPLAY[0], CAMERA[0], 40, FITTING[0], huge], InvalidNumber, "")
+        self.refused(films.film_fits, [DISPLAY[0], CAMERA[0], -huge, FILM[0]], InvalidNumber, "")
+        self.refused(paces.paced_count, [DISPLAY[0], (huge, 0, 1), 0], InvalidCounter, 0)
+        self.refused(paces.first_step, [DISPLAY[0], COUNTER[0], 0, 1, huge], InvalidNumber, "")
 
     def test_a_place_of_another_display(self):
         for places in range(1, 9):
