@@ -58,13 +58,18 @@ def is_lit(display, place, tick):
     return (tick - place * slot) % (places * slot) < lit
 
 
+def place_at(display, tick):
+    """The place that is lit in a tick, None if none is; nothing is checked."""
+    places, slot, lit, _ = display
+    place, past = divmod(tick % (places * slot), slot)
+    return place if past < lit else None
+
+
 def lit_place(display, tick):
     """The place that is lit in a tick, None if none is."""
     check_display(display)
     check_tick(tick)
-    places, slot, lit, _ = display
-    place, past = divmod(tick % (places * slot), slot)
-    return place if past < lit else None
+    return place_at(display, tick)
 
 
 def lit_ahead(display, place, tick):

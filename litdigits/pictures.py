@@ -84,13 +84,18 @@ def check_camera(value):
             raise InvalidCamera(index)
 
 
-def check_picture(display, value):
-    """Raise InvalidPicture unless a value is a picture of a display."""
-    if not isinstance(value, list) or len(value) != display[0]:
+def check_patterns(value, many):
+    """Raise InvalidPicture unless a value is a list of so many patterns."""
+    if not isinstance(value, list) or len(value) != many:
         raise InvalidPicture(None)
     for index, item in enumerate(value):
         if not is_pattern(item):
             raise InvalidPicture(index)
+
+
+def check_picture(display, value):
+    """Raise InvalidPicture unless a value is a picture of a display."""
+    check_patterns(value, display[0])
 
 
 def is_history(display, value):
@@ -213,6 +218,11 @@ def picture_of(display, camera, history, begin):
     check_history(display, history)
     check_tick(begin)
     return picture_begun(display, camera, history, begin)
+
+
+def digits_of(display, number):
+    """The list of the digits of a number, one for each place; nothing is checked."""
+    return [int(letter) for letter in str(number).zfill(display[0])]
 
 
 def number_with(digits):

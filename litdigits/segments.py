@@ -22,9 +22,14 @@ def check_pattern(value):
         raise InvalidPattern("a pattern is a string of different segments in ascending sequence")
 
 
+def is_digit(value):
+    """Whether a value is a digit."""
+    return is_within(value, 0, 9)
+
+
 def check_digit(value):
     """Raise InvalidDigit unless a value is a digit."""
-    if not is_within(value, 0, 9):
+    if not is_digit(value):
         raise InvalidDigit("a digit is an integer from 0 to 9")
 
 

@@ -1,9 +1,10 @@
-"""The examples of the document, as they stand there, in points 5 to 9 and 12 to 27."""
+"""The examples of the document, as they stand there, in points 5 to 9 and 12 to 36."""
 
 import doctest
 import unittest
 
 from litdigits.displays import is_lit, lit_place, round_of
+from litdigits.errors import LitError
 from litdigits.pictures import count_at, picture_of, reading_of, shown_at
 from litdigits.segments import is_pattern, pattern_of
 
@@ -224,7 +225,131 @@ True
 >>> [row_again(display, 7, 30), row_again(display, 7, 7000), row_again(display, 1, 999)]
 [700, 1, 1000]
 """,
+    "28, 1": """
+>>> from litdigits.faults import can_tell, digits_alike, read_with, seen_with
+>>> some = [("", ""), ("g", ""), ("b", "e"), ("abcdefg", "")]
+>>> [seen_with(faults, 3) for faults in some]
+['abcdg', 'abcd', 'acdeg', '']
+>>> [digits_alike(faults) for faults in some]
+[[], [[0, 8]], [[5, 6, 8, 9]], [[0, 1, 2, 3, 4, 5, 6, 7, 8, 9]]]
+>>> [[can_tell(faults) for faults in some], read_with(("b", "e"), "acdefg"), read_with(("g", ""), "g")]
+[[True, False, False, False], [5, 6, 8, 9], []]
+""",
+    "28, 2": """
+>>> from litdigits.faults import numbers_seen
+>>> numbers_seen([("g", ""), ("b", "e")], ["abcdef", "acdefg"])
+[5, 6, 8, 9, 85, 86, 88, 89]
+""",
+    "29, 1": """
+>>> from litdigits.faults import count_faults, first_contradiction, next_digits, segment_states
+>>> tests = [(8, "acdefg"), (1, "c")]
+>>> [segment_states(tests), count_faults(tests), next_digits(tests)]
+[['f', 'd', 'fs', 'f', 'f', 'f', 'f'], 2, [2]]
+>>> [segment_states([]), count_faults([]), next_digits([])]
+[['dfs', 'dfs', 'dfs', 'dfs', 'dfs', 'dfs', 'dfs'], 2187, [1, 2, 5]]
+>>> [first_contradiction(tests), first_contradiction([*tests, (7, "abc")]), count_faults([*tests, (7, "abc")])]
+[None, 2, 0]
+""",
+    "32, 1": """
+>>> from litdigits.live import Panel
+>>> panel = Panel((3, 10, 8, "now"), 198)
+>>> [panel.tick, panel.counted, panel.shown, panel.lit, panel.pattern, len(panel)]
+[None, 198, 198, None, '', 0]
+>>> [panel.wait(5), panel.lit, panel.pattern, panel.press(9), panel.lit, panel.counted]
+[None, 0, 'bc', None, None, 199]
+>>> [panel.press(24), panel.counted, panel.lit, panel.pattern]
+[None, 200, 2, 'abcdef']
+>>> [panel.wait(30), panel.picture((30, 4), 0), panel.picture((30, 5), 0)]
+[None, ['bc', 'abcdfg', 'abcdefg'], ['bc', 'abcdfg', 'abcdf']]
+>>> [panel.undo(), panel.undo(), panel.counted, panel.tick, panel.history]
+[None, None, 199, 9, (198, [9])]
+>>> other = panel.fork()
+>>> [other == panel, other.press(10), other.counted, panel.counted, other == panel, other.log]
+[True, None, 200, 199, False, [('wait', 5), ('press', 9), ('press', 10)]]
+""",
+    "32, 2": """
+>>> from litdigits.live import Panel
+>>> panel = Panel((1, 10, 10, "round"), 8)
+>>> [panel.press(3), panel.counted, panel.shown, panel.wait(9), panel.shown, panel.wait(10), panel.shown]
+[None, 9, 8, None, 8, None, 9]
+""",
+    "33, 1": """
+>>> from litdigits.texts import format_display, format_history, format_picture
+>>> [format_display((3, 10, 8, "now")), format_history((17, [-5, 90])), format_history((0, [])), format_picture(["bc", "", "abdeg"])]
+['3x10/8 now', '17: -5 90', '0:', 'bc - abdeg']
+""",
+    "34, 1": """
+>>> from litdigits.texts import parse_display, parse_history, parse_picture
+>>> display = (3, 10, 8, "now")
+>>> [parse_display("1x5/5 round"), parse_history(display, "17: -5 90"), parse_picture(display, "bc - abdeg")]
+[(1, 5, 5, 'round'), (17, [-5, 90]), ['bc', '', 'abdeg']]
+""",
+    "36, 1": """
+>>> from litdigits.console import Console
+>>> console = Console()
+>>> [console.execute(command) for command in ["number 3", "shown", "torn 0", "clear", "lie"]]
+['ok', '3', '1..23=4 24=9 25..29=3', 'yes', 'yes']
+>>> [console.execute(command) for command in ["press 24", "wait 30", "shown", "reading 0", "picture 0"]]
+['ok', 'ok', '4', '9', 'abcdef abcdef abcdfg']
+>>> [console.execute(command) for command in ["drift 0 7", "camera 29 8", "clear", "drift 0 1", "picture 0", "reading 0"]]
+['none', 'ok', 'no', '1', 'abcdef abcdef bcg', 'none']
+>>> [console.execute(command) for command in ["undo", "undo", "shown", "display 1x10/10 round", "shown", "torn 5"]]
+['ok', 'ok', '3', 'ok', '0', '1..10=1 11..30=0']
+""",
 }
+
+# Those whose last call raises an error, with the point that they stand in.
+RAISING = [
+    ("29", """
+>>> from litdigits.faults import segment_states
+>>> segment_states([(1, ""), (1, "bc")])
+raises Impossible
+"""),
+    ("32", """
+>>> from litdigits.live import Panel
+>>> panel = Panel((3, 10, 8, "now"), 0)
+>>> panel.press(5)
+>>> panel.press(5)
+raises InvalidTick
+"""),
+    ("32", """
+>>> from litdigits.live import Panel
+>>> panel = Panel((3, 10, 8, "now"), 0)
+>>> panel.wait(29)
+>>> panel.picture((30, 4), 0)
+raises InvalidTick
+"""),
+    ("34", """
+>>> from litdigits.texts import parse_display
+>>> parse_display("3x10/11 now")
+raises InvalidSyntax(word=0)
+"""),
+    ("34", """
+>>> from litdigits.texts import parse_history
+>>> parse_history((3, 10, 8, "now"), "17: 5 5")
+raises InvalidSyntax(word=2)
+"""),
+    ("34", """
+>>> from litdigits.texts import parse_picture
+>>> parse_picture((3, 10, 8, "now"), "bc -")
+raises InvalidSyntax(word=2)
+"""),
+    ("36", """
+>>> from litdigits.console import Console
+>>> Console().execute("number 1000")
+raises InvalidNumber
+"""),
+    ("36", """
+>>> from litdigits.console import Console
+>>> Console().execute("camera 30 0")
+raises InvalidCamera(index=1)
+"""),
+    ("36", """
+>>> from litdigits.console import Console
+>>> Console().execute("press 24 now")
+raises InvalidCommand
+"""),
+]
 
 # The table of point 5: each digit with its pattern, two of them in a row.
 DIGITS = """
@@ -246,6 +371,18 @@ class Examples(unittest.TestCase):
                 result = doctest.DocTestRunner(verbose=False).run(test, out=report.append)
                 self.assertEqual(result.failed, 0, "".join(report))
                 self.assertEqual(result.attempted, len(test.examples))
+
+    def test_sessions_that_raise_an_error(self):
+        for point, text in RAISING:
+            with self.subTest(point=point, text=text):
+                *lines, last, told = text.strip().splitlines()
+                names = {}
+                exec("\n".join(line.removeprefix(">>> ") for line in lines), names)
+                word, _, field = told.removeprefix("raises ").rstrip(")").partition("(")
+                with self.assertRaises(LitError) as caught:
+                    eval(last.removeprefix(">>> "), names)
+                self.assertEqual(type(caught.exception).__name__, word)
+                self.assertEqual([f"{name}={value}" for name, value in vars(caught.exception).items()], field.split())
 
     def test_point_5(self):
         self.assertTrue(is_pattern("bcg"))

@@ -20,6 +20,7 @@ METHODS = """
 append clear copy count endswith extend find get index insert isalnum isalpha isdigit islower isspace isupper items
 join keys ljust lower lstrip partition pop remove replace reverse rfind rjust rpartition rsplit rstrip setdefault
 split splitlines startswith strip update upper values zfill bit_length
+removeprefix removesuffix rindex isascii isdecimal isnumeric isidentifier isprintable
 """.split()
 
 NEVER = """
@@ -183,6 +184,57 @@ class Language(unittest.TestCase):
             for node in nodes_of(name, ast.Call):
                 if isinstance(node.func, ast.Attribute):
                     self.assertIn(node.func.attr, [*METHODS, *own], name)
+
+    def test_classes(self):
+        for name in files():
+            for node in nodes_of(name, ast.ClassDef):
+                self.assertEqual(node.decorator_list, [])
+                self.assertLessEqual(len(node.bases), 1)
+                methods = [part for part in node.body if isinstance(part, ast.FunctionDef)]
+                told = [part for part in node.body if isinstance(part, ast.Expr)]
+                self.assertEqual(len(methods) + len(told), len(node.body))
+                for method in methods:
+                    self.assertIn([ast.unparse(some) for some in method.decorator_list], ([], ["property"]))
+                    # No name is a method and an attribute of the class.
+                    stored = [
+                        some.attr for some in ast.walk(node)
+                        if isinstance(some, ast.Attribute) and isinstance(some.ctx, ast.Store)
+                    ]
+                    self.assertNotIn(method.name, stored)
+
+    def test_properties_change_nothing(self):
+        for name in files():
+            for node in nodes_of(name, ast.FunctionDef):
+                if node.decorator_list or node.name in ("__eq__", "__len__"):
+                    for some in ast.walk(node):
+                        if isinstance(some, (ast.Attribute, ast.Subscript)):
+                            self.assertIsInstance(some.ctx, ast.Load)
+
+    def test_no_generator_expressions(self):
+        # Where a class has __eq__, what any, all, min, max, sum and sorted take is a list.
+        for name in files():
+            self.assertEqual(nodes_of(name, ast.GeneratorExp, ast.Yield, ast.Lambda), [])
+
+    def test_caught_errors(self):
+        defined = [node.name for node in nodes_of("errors.py", ast.ClassDef)]
+        for name in files():
+            for node in nodes_of(name, ast.ExceptHandler):
+                self.assertIn(node.type.id, defined)
+            for node in nodes_of(name, ast.Raise):
+                self.assertIn(node.exc.func.id, defined)
+
+    def test_what_is_iterated_at_once(self):
+        first = ("list", "tuple", "dict", "sorted", "sum", "any", "all", "enumerate", "zip")
+        for name in files():
+            good = [node.iter for node in nodes_of(name, ast.For, ast.comprehension)]
+            for node in nodes_of(name, ast.Call):
+                if isinstance(node.func, ast.Name) and node.func.id in first:
+                    good += node.args[:1]
+                if isinstance(node.func, ast.Name) and node.func.id == "combinations":
+                    good += node.args[:1]
+            for node in nodes_of(name, ast.Call):
+                if isinstance(node.func, ast.Name) and node.func.id in ("zip", "enumerate", "reversed", "range"):
+                    self.assertIn(ast.dump(node), [ast.dump(some) for some in good], name)
 
 
 if __name__ == "__main__":

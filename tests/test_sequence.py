@@ -4,10 +4,11 @@ import inspect
 import itertools
 import unittest
 
-from litdigits import clear, displays, drift, explained, films, lies, paces, pictures, segments, told, torn
+from litdigits import clear, displays, drift, explained, faults, films, lies, live, paces, pictures, segments, texts
+from litdigits import told, torn
 from litdigits.errors import (
-    InvalidCamera, InvalidCounter, InvalidDigit, InvalidDisplay, InvalidFilm, InvalidHistory, InvalidNumber,
-    InvalidPattern, InvalidPicture, InvalidPlace, InvalidTick,
+    InvalidCamera, InvalidCounter, InvalidDigit, InvalidDisplay, InvalidFaults, InvalidFilm, InvalidHistory,
+    InvalidNumber, InvalidPattern, InvalidPicture, InvalidPlace, InvalidSyntax, InvalidTests, InvalidTick,
 )
 from tests.helper import NO_INTEGERS, called
 
@@ -51,6 +52,32 @@ COUNTER = (5, 0, 7), [
     ((1000, "", 0), InvalidCounter, 0), ((5, "", 0), InvalidCounter, 1), ((5, 0, 0), InvalidCounter, 2),
 ]
 END = 40, [(value, InvalidTick, "") for value in (11, -10 ** 29, *NO_INTEGERS)]
+FAULTS = ("b", "e"), [
+    (None, InvalidFaults, None), (["b", "e"], InvalidFaults, None), (("b", ), InvalidFaults, None),
+    (("ba", "ba"), InvalidFaults, 0), (("b", "be"), InvalidFaults, 1), (("b", None), InvalidFaults, 1),
+]
+ROW = [("b", "e"), ("", "")], [
+    (None, InvalidFaults, None), ([], InvalidFaults, None), ([None] * 4, InvalidFaults, None),
+    ((("b", "e"), ), InvalidFaults, None), ([None, None], InvalidFaults, 0), ([("b", "e"), ("b", "b")], InvalidFaults, 1),
+]
+TWO_PATTERNS = ["acdefg", "bc"], [
+    (None, InvalidPicture, None), (["bc"], InvalidPicture, None), (["bc"] * 3, InvalidPicture, None),
+    (("bc", "bc"), InvalidPicture, None), (["cb", None], InvalidPicture, 0), (["bc", None], InvalidPicture, 1),
+]
+TESTS = [(8, "acdefg"), (1, "c")], [
+    (None, InvalidTests, None), (((8, "a"), ), InvalidTests, None), ([None] * 61, InvalidTests, None),
+    ([None], InvalidTests, 0), ([(8, "a"), (10, "a")], InvalidTests, 1), ([(8, "a"), (1, "ca"), None], InvalidTests, 1),
+]
+
+
+def texts_of(good, wrong):
+    """A good text, and wrong ones with their words."""
+    return good, [(value, InvalidSyntax, word) for value, word in wrong]
+
+
+DISPLAY_TEXT = texts_of("3x10/8 now", [(None, None), ("", 0), ("3x10/8", 1), ("3x10/8 now now", 2), (5, None)])
+HISTORY_TEXT = texts_of("17: 5 9", [(None, None), ("", 0), ("17: 5 5", 2), ("1000: 5 5", 0), (b"17:", None)])
+PICTURE_TEXT = texts_of("bc - a", [(None, None), ("", 0), ("bc - a a", 3), ("bc -", 2), (["bc"], None)])
 
 KINDS = {
     segments.pattern_of: {"digit": DIGIT},
@@ -112,6 +139,19 @@ KINDS = {
         "display": DISPLAY, "counter": COUNTER, "first": TICK, "period": PERIOD, "step": NUMBER, "many": INDEX,
     },
     paces.row_again: {"display": DISPLAY, "pace": PERIOD, "period": PERIOD},
+    faults.seen_with: {"faults": FAULTS, "digit": DIGIT},
+    faults.digits_alike: {"faults": FAULTS},
+    faults.can_tell: {"faults": FAULTS},
+    faults.read_with: {"faults": FAULTS, "pattern": PATTERN},
+    faults.numbers_seen: {"row": ROW, "picture": TWO_PATTERNS},
+    faults.segment_states: {"tests": TESTS},
+    faults.first_contradiction: {"tests": TESTS},
+    faults.count_faults: {"tests": TESTS},
+    faults.next_digits: {"tests": TESTS},
+    live.Panel: {"display": DISPLAY, "number": NUMBER},
+    texts.parse_display: {"text": DISPLAY_TEXT},
+    texts.parse_history: {"display": DISPLAY, "text": HISTORY_TEXT},
+    texts.parse_picture: {"display": DISPLAY, "text": PICTURE_TEXT},
 }
 
 # These take any value as their last argument, which is no error whatever it is.
@@ -130,8 +170,8 @@ class Sequence(unittest.TestCase):
         error = called(function, *values)
         self.assertIs(type(error), error_class, (function, values))
         self.assertEqual(str(error), str(called(function, **dict(zip(names or KINDS[function], values)))))
-        # Errors without a field have no index at all.
-        self.assertEqual(getattr(error, "index", ""), field, (function, values))
+        # Errors without a field have no index and no word at all.
+        self.assertEqual(getattr(error, "index", getattr(error, "word", "")), field, (function, values))
 
     def test_names_of_the_arguments(self):
         for function, kinds in KINDS.items():
