@@ -1,11 +1,27 @@
-"""Pictures that lie: torn pictures that show a number that never was."""
+"""Pictures that lie: torn pictures that show a number that never was.
 
-from litdigits.clear import clear_stretches
-from litdigits.displays import check_display
+Whether there is one does not depend on how long a round is. What is shown changes at some tick, and if
+the begin of the picture goes on from far ahead of this tick, the old digit of each place is seen up to
+some begin, and the new one from some begin on. So the begins fall into few rows, in each of which all
+places keep their states, and only in the first and the last row all of them are of one number.
+"""
+
+from litdigits.clear import clear_stretches, common_stretches, left_out, seen_stretches
+from litdigits.displays import NOW, check_display, lit_ahead, lit_tick
 from litdigits.integers import check_tick, is_integer
 from litdigits.pictures import check_camera, check_number, number_with, numbers_of, picture_begun
 from litdigits.segments import digit_of
-from litdigits.torn import digits_of_press, in_states, readings_within, torn_rows
+from litdigits.torn import BOTH, NEITHER, NEW, OLD, readings_within
+
+# Which digits lie that are ahead of the digits 9 at the end of a number, and become the next ones. The row is
+# what these 9 show, of which none is in the state NEITHER: nothing if there is none, the old digits, the new
+# ones, or a mixture; that is the union of their states, as bits. The column is the state of the digit itself.
+LIARS = (
+    ((), (), (), (3, 4, 6)),
+    ((0, 8), (), (0, 1, 2, 3, 4, 5, 6, 7, 8), (3, 4, 5, 6, 7)),
+    ((5, 7), (0, 1, 2, 3, 4, 5, 6, 7, 8), (), (0, 3, 4, 6, 8)),
+    ((0, 5, 7, 8), (0, 1, 2, 3, 4, 5, 6, 7, 8), (0, 1, 2, 3, 4, 5, 6, 7, 8), (0, 3, 4, 5, 6, 7, 8)),
+)
 
 
 def is_lie(display, number, reading):
@@ -13,56 +29,184 @@ def is_lie(display, number, reading):
     return reading is not None and reading != number and reading != (number + 1) % numbers_of(display)
 
 
-def clear_ticks(display, camera):
-    """The list of all begins from 0 to round - 1 for which all places are seen; nothing is checked."""
-    return [begin for least, greatest in clear_stretches(display, camera) for begin in range(least, greatest + 1)]
+def kind_within(display, number):
+    """The kind of a number; nothing is checked."""
+    nines = 0
+    while number % 10 == 9:
+        nines += 1
+        number = number // 10
+    return (nines, number % 10 if nines < display[0] else 9)
 
 
-def first_lie(display, camera, number):
-    """The first tuple (begin, press) of a lie of a number, None if there is none; nothing is checked."""
-    table = digits_of_press(display, number)
-    # A picture in which a place is dark has no reading.
-    for begin in clear_ticks(display, camera):
-        for least, _, states in torn_rows(display, camera, begin):
-            if is_lie(display, number, number_with(in_states(table, states))):
-                return (begin, least)
+def first_in(stretches, modulus, low, high):
+    """An integer from low to high that is in one of the stretches, modulo the modulus; None if there is none."""
+    for least, greatest in stretches:
+        past = (low - least) % modulus
+        if low <= high and past <= greatest - least:
+            return low
+        if low + modulus - past <= high:
+            return low + modulus - past
     return None
 
 
-def possible_states(display, camera):
-    """The different lists of the states of all places, if all places are seen; nothing is checked."""
-    found = {}
-    for begin in clear_ticks(display, camera):
-        for _, _, states in torn_rows(display, camera, begin):
-            found[tuple(states)] = True
-    return [list(states) for states in found]
+def begin_turns(display, camera):
+    """At which begins the states of the places change, if what is shown changes at tick 0.
+
+    Ascending tuples (begin, place, more): from this begin on the state of the place is greater by so much.
+    Ahead of all of them it is OLD. Nothing is checked.
+    """
+    exposure, need = camera
+    turns = []
+    for place in range(display[0]):
+        turns.append((lit_tick(display, place, -need) + 1, place, -OLD))
+        turns.append((lit_tick(display, place, need - 1) + 1 - exposure, place, NEW))
+    return sorted(turns)
 
 
-def numbers_by_kind(display):
-    """The ascending list of the tuples (kind, number) with one number of each kind; nothing is checked."""
-    found = []
-    power = 1
+def begin_rows(turns, states, low, high, stretches):
+    """The begins from low to high in rows (least, greatest, states, stretches), none if there are no stretches.
+
+    These are the states of the places ahead of all turns. The stretches are only handed on.
+    """
+    rows = []
+    if not stretches or low > high:
+        return rows
+    states = list(states)
+    for begin, place, more in turns:
+        if begin > high:
+            break
+        if begin > low:
+            rows.append((low, begin - 1, tuple(states), stretches))
+            low = begin
+        states[place] = states[place] + more
+    return [*rows, (low, high, tuple(states), stretches)]
+
+
+def rows_in_slot(display, camera, turns, clear):
+    """What begin_rows tells of all changes in the slot from tick 0 on with which place 0 is BOTH or NEITHER.
+
+    In any other state of place 0, which is lit in this slot, the change could as well be at the end of the slot,
+    or at its begin, and the other places do not care where in it the change is. Nothing is checked.
+    """
+    places, slot, lit, _ = display
+    exposure, need = camera
+    others = [turn for turn in turns if turn[1] > 0]
+    states = [OLD] * (places - 1)
+    # Both digits are seen if the place is lit in twice the need, and enough of it can be on each side of the change.
+    seen = common_stretches(clear, seen_stretches(display, (exposure, 2 * need), 0))
+    low, high = lit_tick(display, 0, need) + 1 - exposure, lit_tick(display, 0, lit - need)
+    both = begin_rows(others, [BOTH, *states], low, high, seen)
+    # Neither is if it is lit in two ticks less, or in fewer, and too little can be on each side of the change.
+    left = left_out(seen_stretches(display, (exposure, 2 * need - 1), 0), places * slot)
+    low, high = lit_tick(display, 0, 1 - need) + 1, lit_tick(display, 0, lit + need - 1) - exposure
+    return both + begin_rows(others, [NEITHER, *states], low, high, common_stretches(clear, left))
+
+
+def torn_begins(display, camera):
+    """Rows (least, greatest, states, stretches) of begins for which all places are seen and can have these states.
+
+    The begins are those from least to greatest that are in one of the stretches, modulo the round. With the
+    driver "now" the places can be counted from any one on, as they are lit by turns. Nothing is checked.
+    """
+    clear = clear_stretches(display, camera)
+    if clear:
+        turns = begin_turns(display, camera)
+        rows = begin_rows(turns, [OLD] * display[0], turns[0][0], turns[-1][0] - 1, clear)
+        # Whoever asks for one lie alone often finds it here, and the other rows are not worked out.
+        yield from rows
+        if display[3] == NOW:
+            later = rows_in_slot(display, camera, turns, clear)
+            yield from later
+
+
+def last_places(display):
+    """The list of the places of torn_begins that can be the last one of the display."""
+    return list(range(display[0])) if display[3] == NOW else [display[0] - 1]
+
+
+def lies_with(states, last, nines, digit):
+    """Whether a number of this kind lies if the places, up to the last one, have these states."""
+    union = 0
+    for place in range(last, last - nines, -1):
+        if states[place] == NEITHER:
+            return False
+        union = union | states[place]
+    if nines == len(states):
+        return union == BOTH
+    return digit in LIARS[union][states[last - nines]]
+
+
+def change_with(display, camera, begin, state):
+    """A tick in the slot from tick 0 on such that place 0 has a state if what is shown changes at it.
+
+    There is such a tick for this begin, and if the state is OLD or NEW, tick 0 is one. Nothing is checked.
+    """
+    exposure, need = camera
+    if state == NEW:
+        return 0
+    old_from, new_until = need + lit_ahead(display, 0, begin), lit_ahead(display, 0, begin + exposure) - need
+    return max(0, min(old_from, new_until + 1))
+
+
+def first_lie(display, camera, number):
+    """A tuple (begin, press), begin from 0 to round - 1, of a lie of a number, None if there is none.
+
+    Nothing is checked.
+    """
+    places, slot, _, _ = display
+    nines, digit = kind_within(display, number)
+    for least, greatest, states, stretches in torn_begins(display, camera):
+        for last in last_places(display):
+            if lies_with(states, last, nines, digit):
+                begin = first_in(stretches, places * slot, least, greatest)
+                if begin is not None:
+                    found = (begin + (places - 1 - last) * slot) % (places * slot)
+                    return (found, found - begin + change_with(display, camera, begin, states[0]))
+    return None
+
+
+def add_pairs(found, states, last):
+    """Put into found, at the index of each number of 9 at the end, what these 9 show and the state ahead of them."""
+    union = 0
+    for nines in range(len(states)):
+        state = states[last - nines]
+        found[nines][(union, state)] = True
+        if state == NEITHER:
+            return
+        union = union | state
+    found[len(states)][(union, OLD)] = True
+
+
+def pairs_by_nines(display, camera):
+    """For each number of 9 at the end a dict of the pairs for LIARS that there are; nothing is checked.
+
+    If all digits are 9, the second item of the pairs means nothing.
+    """
+    found = [{} for _ in range(display[0] + 1)]
+    passed = {}
+    for least, greatest, states, stretches in torn_begins(display, camera):
+        if states not in passed and first_in(stretches, display[0] * display[1], least, greatest) is not None:
+            passed[states] = True
+            for last in last_places(display):
+                add_pairs(found, states, last)
+    return found
+
+
+def kinds_within(display, camera):
+    """The ascending list of the kinds of all numbers that can lie; nothing is checked."""
+    found = pairs_by_nines(display, camera)
+    kinds = []
     for nines in range(display[0]):
-        found += [((nines, digit), digit * power + power - 1) for digit in range(9)]
-        power = power * 10
-    return [*found, ((display[0], 9), power - 1)]
-
-
-def lies_in_states(display, number, rows):
-    """Whether a number has a lie in one of several lists of states; nothing is checked."""
-    table = digits_of_press(display, number)
-    return any([is_lie(display, number, number_with(in_states(table, states))) for states in rows])
+        digits = {digit: True for union, state in found[nines] for digit in LIARS[union][state]}
+        kinds += [(nines, digit) for digit in sorted(digits)]
+    return [*kinds, (display[0], 9)] if (BOTH, OLD) in found[display[0]] else kinds
 
 
 def kind_of(display, number):
     """The kind of a number: how many digits 9 are at its end, and the digit ahead of them, 9 if there is none."""
     check_display(display)
     check_number(display, number)
-    nines = 0
-    while number % 10 == 9:
-        nines += 1
-        number = number // 10
-    return (nines, number % 10 if nines < display[0] else 9)
+    return kind_within(display, number)
 
 
 def lies_at(display, camera, number, begin):
@@ -109,13 +253,11 @@ def lying_kinds(display, camera):
     """The ascending list of the kinds of all numbers that can lie."""
     check_display(display)
     check_camera(camera)
-    rows = possible_states(display, camera)
-    return [kind for kind, number in numbers_by_kind(display) if lies_in_states(display, number, rows)]
+    return kinds_within(display, camera)
 
 
 def is_truthful(display, camera):
     """Whether no number can lie."""
     check_display(display)
     check_camera(camera)
-    rows = possible_states(display, camera)
-    return not any([lies_in_states(display, number, rows) for _, number in numbers_by_kind(display)])
+    return not kinds_within(display, camera)

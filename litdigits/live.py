@@ -3,7 +3,9 @@
 from litdigits.displays import check_display, place_at
 from litdigits.errors import InvalidTick, NothingToUndo
 from litdigits.integers import check_tick
-from litdigits.pictures import check_camera, check_number, counted_at, digits_of, picture_begun, shown_until
+from litdigits.pictures import (
+    check_camera, check_number, counted_at, digits_of, numbers_of, picture_begun, shown_until,
+)
 from litdigits.segments import PATTERNS
 
 PRESS = "press"
@@ -39,9 +41,8 @@ class Panel:
     @property
     def counted(self):
         """The count at the present tick."""
-        if not self._log:
-            return self._number
-        return counted_at(self._display, (self._number, self._presses), self.tick)
+        # No press is behind the present tick.
+        return (self._number + len(self._presses)) % numbers_of(self._display)
 
     @property
     def shown(self):

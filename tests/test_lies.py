@@ -1,6 +1,7 @@
 """Points 21 and 22."""
 
 import random
+import time
 import unittest
 
 from litdigits import lies
@@ -9,8 +10,8 @@ from litdigits.lies import can_lie, is_truthful, kind_of, lie_paper, lies_at, ly
 from litdigits.pictures import picture_of, reading_of
 from litdigits.torn import torn_readings
 from tests.helper import (
-    NO_INTEGERS, STRANGE, AtOnce, called, cameras_around, clear_by_turns, lists_in, presses_around, small_displays,
-    torn_by_turns,
+    NO_INTEGERS, PATTERNS, STRANGE, AtOnce, called, cameras_around, clear_by_turns, lists_in, lit_until, presses_around,
+    shown_from, small_displays, torn_by_turns,
 )
 
 DISPLAY, CAMERA = (3, 10, 8, "now"), (30, 4)
@@ -205,6 +206,166 @@ class AllBeginsAndPresses(unittest.TestCase):
                     paper = called(lie_paper, display, camera, number)
                     self.assertIs(can_lie(display, camera, number), paper is not None)
                     self.assertIs(paper is None or shows_lie(display, camera, number, paper), True)
+
+
+def ways_by_turns(display, camera):
+    """All begins of a round and presses of their spans for which all places are seen, counted tick by tick.
+
+    A dict: for each tuple of (old is seen, new is seen) of all places the list of the tuples (begin, press).
+    """
+    exposure, need = camera
+    places, slot, _, _ = display
+    found = {}
+    for begin in range(places * slot):
+        counts = [lit_until(display, place, begin, begin + exposure) for place in range(places)]
+        if min(count[-1] for count in counts) < need:
+            continue
+        for press in presses_around(display, camera, begin):
+            past = shown_from(display, press) - begin
+            states = tuple((count[past] >= need, count[-1] - count[past] >= need) for count in counts)
+            found.setdefault(states, []).append((begin, press))
+    return found
+
+
+def reading_in(display, number, states):
+    """The reading of a picture with these states, by the patterns of both digits of each place."""
+    after = (number + 1) % 10 ** display[0]
+    reading = 0
+    for one, other, (old, new) in zip(str(number).zfill(display[0]), str(after).zfill(display[0]), states):
+        before, behind = set(PATTERNS[int(one)]), set(PATTERNS[int(other)])
+        # What both have is lit with either.
+        seen = before & behind | (before if old else set()) | (behind if new else set())
+        digits = [digit for digit, pattern in PATTERNS.items() if set(pattern) == seen]
+        if not digits:
+            return None
+        reading = 10 * reading + digits[0]
+    return reading
+
+
+class LongRounds(unittest.TestCase):
+    def lying(self, display, number, ways):
+        """All tuples (begin, press) of lies of a number."""
+        shown = (None, number, (number + 1) % 10 ** display[0])
+        return [way for states, some in ways.items() if reading_in(display, number, states) not in shown for way in some]
+
+    def compare(self, display, camera, numbers):
+        ways = ways_by_turns(display, camera)
+        kinds = []
+        for kind, number in all_kinds(display).items():
+            if self.lying(display, number, ways):
+                kinds.append(kind)
+        given = (display, camera)
+        self.assertEqual(called(lying_kinds, *given), sorted(kinds), given)
+        self.assertIs(called(is_truthful, *given), kinds == [], given)
+        for number in numbers:
+            every = self.lying(display, number, ways)
+            self.assertIs(called(can_lie, *given, number), every != [], (*given, number))
+            paper = called(lie_paper, *given, number)
+            if every:
+                self.assertIn(paper, every, (*given, number))
+                self.assertIs(called(shows_lie, *given, number, paper), True)
+            else:
+                self.assertIsNone(paper, (*given, number))
+        return kinds
+
+    def test_liars(self):
+        # What the table tells is what the patterns of the digits tell, with a 9 for the digits behind.
+        states = {0: (False, False), 1: (True, False), 2: (False, True), 3: (True, True)}
+        for union in range(4):
+            for state in range(4):
+                for digit in range(9):
+                    if union == 0:
+                        display, number, behind = (1, 1, 1, "now"), digit, ()
+                    else:
+                        display, number, behind = (2, 1, 1, "now"), 10 * digit + 9, (states[union], )
+                    reading = reading_in(display, number, (states[state], *behind))
+                    lies_so = reading not in (None, number, (number + 1) % 10 ** display[0])
+                    self.assertIs(digit in lies.LIARS[union][state], lies_so, (union, state, digit))
+
+    def test_drawn_displays(self):
+        choice = random.Random(2122)
+        told = {True: 0, False: 0}
+        for _ in range(250):
+            places, slot = choice.randrange(1, 4), choice.randrange(1, 8)
+            lit = choice.choice([slot, choice.randrange(1, slot + 1)])
+            display = (places, slot, lit, choice.choice(["now", "round"]))
+            exposure = choice.choice([places * slot, choice.randrange(1, 3 * places * slot + 2)])
+            most = exposure // (places * slot) * lit + 1
+            camera = (exposure, choice.randrange(1, most + 1))
+            numbers = [choice.randrange(10 ** places), 10 ** places - 1, choice.choice([3, 4, 6, 8, 9]), choice.choice([0, 5, 9])]
+            told[bool(self.compare(display, camera, numbers))] += 1
+        self.assertGreater(min(told.values()), 40)
+
+    def test_rounds_with_few_lit_ticks(self):
+        for display, camera in [
+            ((2, 50, 2, "now"), (100, 1)), ((1, 100, 3, "now"), (100, 2)), ((1, 100, 4, "now"), (100, 2)), ((3, 40, 1, "now"), (121, 1)),
+            ((3, 34, 2, "round"), (150, 1)), ((2, 60, 5, "round"), (300, 6)), ((2, 60, 5, "now"), (241, 5)), ((2, 60, 5, "now"), (240, 6)),
+        ]:
+            self.compare(display, camera, [3, 9, 0, 10 ** display[0] - 1, 5 if display[0] == 1 else 59])
+
+    def test_eight_places(self):
+        for camera, expected in [((400, 20), True), ((400, 21), False)]:
+            display = (8, 50, 40, "now")
+            self.assertIs(called(can_lie, display, camera, 6), expected)
+            paper = called(lie_paper, display, camera, 6)
+            if expected:
+                self.assertIs(called(shows_lie, display, camera, 6, paper), True)
+                self.assertIn(paper[0], range(400))
+            else:
+                self.assertIsNone(paper)
+        # In the picture of a whole round a place is lit for lit ticks: a half of them is enough for both digits.
+        for lit in (2, 4, 6, 8):
+            for need, alone in [(lit // 2, [(0, 3), (0, 4), (0, 6)]), (lit // 2 + 1, [])]:
+                kinds = called(lying_kinds, (8, 10, lit, "now"), (80, need))
+                self.assertEqual([kind for kind in kinds if kind[0] == 0], alone)
+                self.assertEqual([kind for kind in kinds if kind[0] > 0], [(nines, digit) for nines in range(1, 8) for digit in range(9)] + [(8, 9)])
+                self.assertIs(called(is_truthful, (8, 10, lit, "now"), (80, need)), False)
+        # The change is between the rounds, so that each place is lit in both of its digits.
+        self.assertEqual(called(lying_kinds, (2, 200, 2, "round"), (400, 1)), self.compare((2, 200, 2, "round"), (400, 1), [9, 99, 6]))
+
+    def test_eight_places_against_all_begins_and_presses(self):
+        choice = random.Random(8)
+        for display, camera in [
+            ((8, 10, 2, "now"), (80, 1)), ((8, 10, 8, "now"), (80, 5)), ((8, 3, 3, "now"), (31, 2)), ((8, 4, 2, "round"), (70, 2)),
+            ((8, 5, 4, "now"), (37, 2)), ((5, 6, 5, "now"), (33, 3)), ((6, 5, 5, "round"), (55, 4)),
+        ]:
+            numbers = [10 ** nines - 1 + 10 ** nines * choice.randrange(9) for nines in range(display[0])]
+            self.compare(display, camera, [*numbers, 10 ** display[0] - 1])
+        ways = ways_by_turns((8, 50, 40, "now"), (400, 21))
+        self.assertEqual(self.lying((8, 50, 40, "now"), 6, ways), [])
+
+    def test_quicker_than_going_through_all_begins(self):
+        display, camera = (8, 50, 40, "now"), (400, 21)
+        through = self.least_time(lambda: [lies_at(display, camera, 6, begin) for begin in range(400)])
+        for answer in [
+            lambda: can_lie(display, camera, 6), lambda: lie_paper(display, camera, 6), lambda: lying_kinds(display, camera),
+            lambda: is_truthful(display, camera),
+        ]:
+            self.assertLess(4 * self.least_time(answer), through)
+
+    def least_time(self, answer):
+        times = []
+        for _ in range(5):
+            begin = time.perf_counter()
+            answer()
+            times.append(time.perf_counter() - begin)
+        return min(times)
+
+    def test_rounds_of_any_length(self):
+        choice = random.Random(400)
+        for _ in range(40):
+            slot = choice.randrange(10 ** 27, 10 ** 28)
+            display = (choice.randrange(1, 9), slot, choice.randrange(slot // 2, slot + 1), choice.choice(["now", "round"]))
+            camera = (display[0] * slot * choice.randrange(1, 3), choice.randrange(1, display[2]))
+            with AtOnce():
+                kinds = called(lying_kinds, display, camera)
+                for kind, number in all_kinds(display).items():
+                    paper = called(lie_paper, display, camera, number)
+                    self.assertIs(called(can_lie, display, camera, number), kind in kinds)
+                    self.assertIs(paper is not None, kind in kinds)
+                    if paper is not None:
+                        self.assertIn(paper[0], range(display[0] * slot))
+                        self.assertIs(shows_lie(display, camera, number, paper), True)
 
 
 class ShowsLie(unittest.TestCase):
