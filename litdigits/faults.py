@@ -182,9 +182,7 @@ def count_faults(tests):
 
 def next_digits(tests):
     """The fewest digits that, if they are shown next, surely tell what each segment is."""
-    check_tests(tests)
-    found = states_left(tests)
-    if "" in found:
-        raise Impossible("no faults fit the tests")
-    wanted = [digits for letters, segment in zip(found, SEGMENTS) for digits in digits_wanted(letters, segment)]
-    return shortest_choice(wanted)
+    found = segment_states(tests)
+    return shortest_choice(
+        [digits for letters, segment in zip(found, SEGMENTS) for digits in digits_wanted(letters, segment)]
+    )

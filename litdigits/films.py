@@ -71,6 +71,8 @@ def scenes_of(display, camera, film):
 
 def waited(lasts, begin, end, gap, many):
     """The earliest last presses by number, once more presses from begin to end can have come behind these ones."""
+    if begin > end or len(lasts) == many:
+        return lasts
     found = dict(lasts)
     for number, last in lasts.items():
         press = max(begin, last + gap)

@@ -6,7 +6,7 @@ some begin, and the new one from some begin on. So the begins fall into few rows
 places keep their states, and only in the first and the last row all of them are of one number.
 """
 
-from litdigits.clear import clear_stretches, common_stretches, left_out, seen_stretches
+from litdigits.clear import clear_stretches, common_stretches, seen_stretches
 from litdigits.displays import NOW, check_display, lit_ahead, lit_tick
 from litdigits.integers import check_tick, is_integer
 from litdigits.pictures import check_camera, check_number, number_with, numbers_of, picture_begun
@@ -63,60 +63,45 @@ def begin_turns(display, camera):
     return sorted(turns)
 
 
-def begin_rows(turns, states, low, high, stretches):
-    """The begins from low to high in rows (least, greatest, states, stretches), none if there are no stretches.
-
-    These are the states of the places ahead of all turns. The stretches are only handed on.
-    """
+def begin_rows(turns, states, low, high):
+    """The begins from low to high in rows (least, greatest, states); these are the states ahead of all turns."""
     rows = []
-    if not stretches or low > high:
-        return rows
     states = list(states)
     for begin, place, more in turns:
         if begin > high:
             break
         if begin > low:
-            rows.append((low, begin - 1, tuple(states), stretches))
+            rows.append((low, begin - 1, tuple(states)))
             low = begin
         states[place] = states[place] + more
-    return [*rows, (low, high, tuple(states), stretches)]
-
-
-def rows_in_slot(display, camera, turns, clear):
-    """What begin_rows tells of all changes in the slot from tick 0 on with which place 0 is BOTH or NEITHER.
-
-    In any other state of place 0, which is lit in this slot, the change could as well be at the end of the slot,
-    or at its begin, and the other places do not care where in it the change is. Nothing is checked.
-    """
-    places, slot, lit, _ = display
-    exposure, need = camera
-    others = [turn for turn in turns if turn[1] > 0]
-    states = [OLD] * (places - 1)
-    # Both digits are seen if the place is lit in twice the need, and enough of it can be on each side of the change.
-    seen = common_stretches(clear, seen_stretches(display, (exposure, 2 * need), 0))
-    low, high = lit_tick(display, 0, need) + 1 - exposure, lit_tick(display, 0, lit - need)
-    both = begin_rows(others, [BOTH, *states], low, high, seen)
-    # Neither is if it is lit in two ticks less, or in fewer, and too little can be on each side of the change.
-    left = left_out(seen_stretches(display, (exposure, 2 * need - 1), 0), places * slot)
-    low, high = lit_tick(display, 0, 1 - need) + 1, lit_tick(display, 0, lit + need - 1) - exposure
-    return both + begin_rows(others, [NEITHER, *states], low, high, common_stretches(clear, left))
+    return [*rows, (low, high, tuple(states))]
 
 
 def torn_begins(display, camera):
-    """Rows (least, greatest, states, stretches) of begins for which all places are seen and can have these states.
+    """Rows (least, greatest, states, stretches) of begins for which all places can have these states.
 
-    The begins are those from least to greatest that are in one of the stretches, modulo the round. With the
-    driver "now" the places can be counted from any one on, as they are lit by turns. Nothing is checked.
+    The begins are those from least to greatest that are in one of the stretches, modulo the round. All places
+    are seen then. With the driver "now" the places can be counted from any one on, as they are lit by turns.
+    Rows that do not let more numbers lie than others do are left out. Nothing is checked.
     """
+    exposure, need = camera
     clear = clear_stretches(display, camera)
-    if clear:
-        turns = begin_turns(display, camera)
-        rows = begin_rows(turns, [OLD] * display[0], turns[0][0], turns[-1][0] - 1, clear)
-        # Whoever asks for one lie alone often finds it here, and the other rows are not worked out.
-        yield from rows
-        if display[3] == NOW:
-            later = rows_in_slot(display, camera, turns, clear)
-            yield from later
+    if not clear:
+        return
+    # What is shown changes at tick 0, where a slot begins and all slots ahead of it are over.
+    turns = begin_turns(display, camera)
+    rows = begin_rows(turns, [OLD] * display[0], turns[0][0], turns[-1][0] - 1)
+    for least, greatest, states in rows:
+        yield (least, greatest, states, clear)
+    if display[3] == NOW:
+        # It changes within the slot of place 0, and both digits of this place are seen. If only one of them or
+        # neither is, nothing more can lie than with a change at the begin or at the end of the slot.
+        both = common_stretches(clear, seen_stretches(display, (exposure, 2 * need), 0))
+        low, high = lit_tick(display, 0, need) + 1 - exposure, lit_tick(display, 0, display[2] - need)
+        others = [turn for turn in turns if turn[1] > 0]
+        rows = begin_rows(others, [BOTH] + [OLD] * (display[0] - 1), low, high) if both else []
+        for least, greatest, states in rows:
+            yield (least, greatest, states, both)
 
 
 def last_places(display):
@@ -136,18 +121,6 @@ def lies_with(states, last, nines, digit):
     return digit in LIARS[union][states[last - nines]]
 
 
-def change_with(display, camera, begin, state):
-    """A tick in the slot from tick 0 on such that place 0 has a state if what is shown changes at it.
-
-    There is such a tick for this begin, and if the state is OLD or NEW, tick 0 is one. Nothing is checked.
-    """
-    exposure, need = camera
-    if state == NEW:
-        return 0
-    old_from, new_until = need + lit_ahead(display, 0, begin), lit_ahead(display, 0, begin + exposure) - need
-    return max(0, min(old_from, new_until + 1))
-
-
 def first_lie(display, camera, number):
     """A tuple (begin, press), begin from 0 to round - 1, of a lie of a number, None if there is none.
 
@@ -160,8 +133,10 @@ def first_lie(display, camera, number):
             if lies_with(states, last, nines, digit):
                 begin = first_in(stretches, places * slot, least, greatest)
                 if begin is not None:
+                    # The old digit of place 0 is seen from this change on, or with a change at tick 0 already.
+                    change = max(0, camera[1] + lit_ahead(display, 0, begin)) if states[0] == BOTH else 0
                     found = (begin + (places - 1 - last) * slot) % (places * slot)
-                    return (found, found - begin + change_with(display, camera, begin, states[0]))
+                    return (found, found - begin + change)
     return None
 
 

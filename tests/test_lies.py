@@ -303,6 +303,21 @@ class LongRounds(unittest.TestCase):
         ]:
             self.compare(display, camera, [3, 9, 0, 10 ** display[0] - 1, 5 if display[0] == 1 else 59])
 
+    def test_exposures_of_several_rounds(self):
+        # With about a half of the lit ticks as need, it matters where in its slot a place changes.
+        for display, camera in [
+            ((2, 7, 5, "now"), (58, 11)), ((3, 8, 4, "now"), (62, 6)), ((2, 9, 2, "now"), (110, 7)), ((3, 11, 6, "now"), (69, 7)),
+            ((4, 7, 5, "now"), (75, 7)), ((4, 9, 3, "round"), (88, 4)), ((5, 3, 2, "now"), (124, 9)),
+        ]:
+            self.assertTrue(self.compare(display, camera, [3, 9, 39, 10 ** display[0] - 1, 59, 8]))
+        choice = random.Random(221)
+        for _ in range(60):
+            places, slot = choice.randrange(2, 4), choice.randrange(2, 7)
+            display = (places, slot, choice.randrange(1, slot + 1), choice.choice(["now", "now", "round"]))
+            rounds, rest = choice.randrange(2, 6), choice.randrange(places * slot)
+            camera = (rounds * places * slot + rest, max(1, rounds * display[2] // 2 + choice.randrange(-1, 3)))
+            self.compare(display, camera, [choice.randrange(10 ** places), 10 ** places - 1])
+
     def test_eight_places(self):
         for camera, expected in [((400, 20), True), ((400, 21), False)]:
             display = (8, 50, 40, "now")
