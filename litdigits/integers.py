@@ -9,14 +9,17 @@ def is_integer(value):
     return isinstance(value, int) and not isinstance(value, bool)
 
 
+# These two stand in each check of a display or a camera, so they do without a call of is_integer.
+
+
 def is_from(value, least):
     """Whether a value is an integer from least on."""
-    return is_integer(value) and value >= least
+    return isinstance(value, int) and not isinstance(value, bool) and value >= least
 
 
 def is_within(value, least, greatest):
     """Whether a value is an integer from least to greatest."""
-    return is_integer(value) and least <= value <= greatest
+    return isinstance(value, int) and not isinstance(value, bool) and least <= value <= greatest
 
 
 # The messages leave the value out: Python refuses to write integers with very many digits.

@@ -128,8 +128,11 @@ def first_lie(display, camera, number):
     """
     places, slot, _, _ = display
     nines, digit = kind_within(display, number)
+    if nines == 0 and digit not in LIARS[0][BOTH]:
+        return None
+    ends = last_places(display)
     for least, greatest, states, stretches in torn_begins(display, camera):
-        for last in last_places(display):
+        for last in ends:
             if lies_with(states, last, nines, digit):
                 begin = first_in(stretches, places * slot, least, greatest)
                 if begin is not None:
@@ -158,11 +161,12 @@ def pairs_by_nines(display, camera):
     If all digits are 9, the second item of the pairs means nothing.
     """
     found = [{} for _ in range(display[0] + 1)]
+    ends = last_places(display)
     passed = {}
     for least, greatest, states, stretches in torn_begins(display, camera):
         if states not in passed and first_in(stretches, display[0] * display[1], least, greatest) is not None:
             passed[states] = True
-            for last in last_places(display):
+            for last in ends:
                 add_pairs(found, states, last)
     return found
 
